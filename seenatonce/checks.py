@@ -18,6 +18,16 @@ def is_count(value):
     return is_number(value) and value >= 0
 
 
+def counts_from_one(value):
+    """Whether any value is a number from 1 on."""
+    return is_count(value) and value > 0
+
+
+def is_list(value):
+    """Whether any value may stand where a list is expected."""
+    return isinstance(value, (list, tuple))
+
+
 def is_place(value, many):
     """Whether any value is a number from 0 on, below many."""
     return is_count(value) and value < many

@@ -1,6 +1,6 @@
 """Rows beside one another: which are below others, which are parted, which make a line."""
 
-from seenatonce.checks import MOST_HANDS, ascends, below, is_row_for
+from seenatonce.checks import MOST_HANDS, ascends, below, is_list, is_row_for
 from seenatonce.errors import BadLine, BadRow, BadRows, Parted
 
 
@@ -16,13 +16,20 @@ def are_alike_rows(values):
 
 def check_rows(rows):
     """BadRows for what is no list of rows with as many items."""
-    if not isinstance(rows, (list, tuple)) or not are_alike_rows(rows):
+    if not is_list(rows) or not are_alike_rows(rows):
         raise BadRows("no list of rows with as many items")
 
 
 def are_apart(one, other):
     """Whether neither of two rows is below the other one."""
     return not below(one, other) and not below(other, one)
+
+
+def on_one_line(rows):
+    """Whether of each two of some rows with as many items the one is below the other."""
+    # Of two unlike rows the one that is below the other one is less in Python's order, too.
+    unlike = sorted(set(rows))
+    return all([below(row, after) for row, after in zip(unlike, unlike[1:])])
 
 
 def is_below(one, other):

@@ -1,6 +1,6 @@
 """What houses say under their seals, and papers of two sayings that convict one."""
 
-from seenatonce.checks import below, is_count, is_place, is_row_for, is_tuple_of
+from seenatonce.checks import below, counts_from_one, is_place, is_row_for, is_tuple_of
 from seenatonce.errors import BadSaying
 from seenatonce.trust import are_ascending_names, check_book
 
@@ -40,7 +40,7 @@ def _says(trust, store, content):
         return False
     hands, houses, _ = store
     _, house, number, row, past, about = content
-    if not is_place(house, houses) or not is_count(number) or number == 0 or not is_row_for(row, hands):
+    if not is_place(house, houses) or not counts_from_one(number) or not is_row_for(row, hands):
         return False
     return _is_past(trust, past, number) and are_ascending_names(trust, about)
 

@@ -1,7 +1,8 @@
 """Sheets that hands sealed, and stocks of them."""
 
-from seenatonce.checks import ascends, below, is_count, is_place, is_row_for, is_tuple_of
+from seenatonce.checks import below, counts_from_one, is_count, is_place, is_row_for, is_tuple_of
 from seenatonce.errors import BadHand, BadRow, BadStock
+from seenatonce.rows import is_line
 from seenatonce.spans import is_look
 from seenatonce.tables import MOST_DEEDS
 from seenatonce.trust import check_book
@@ -12,20 +13,32 @@ def number_of_sheet(trust, name):
     return trust.content(name)[2]
 
 
+def deed_of_sheet(trust, name):
+    """The deed of a sheet."""
+    return trust.content(name)[3]
+
+
+def answer_of_sheet(trust, name):
+    """The answer of a sheet."""
+    return trust.content(name)[4]
+
+
 def looks_of_sheet(trust, name):
     """The looks of a sheet."""
     return trust.content(name)[5]
+
+
+def own_look(trust, name):
+    """The own look of a sheet's deed, the last of its looks."""
+    return looks_of_sheet(trust, name)[-1]
 
 
 def _are_looks(trust, store, hand, number, value):
     """Whether any value is a tuple of looks for the sheet of the hand with this number."""
     if not isinstance(value, tuple) or not value or not all([is_look(trust, store, look) for look in value]):
         return False
-    rows = [look[0] for look in value]
-    # A row that is below another one and unlike it is less in Python's order, too.
-    if not ascends(rows) or not all([below(row, after) for row, after in zip(rows, rows[1:])]):
-        return False
-    return all([row[hand] == number - 1 for row in rows])
+    rows = tuple([look[0] for look in value])
+    return is_line(rows) and all([row[hand] == number - 1 for row in rows])
 
 
 def _is_sheet(trust, store, hand, name):
@@ -35,7 +48,7 @@ def _is_sheet(trust, store, hand, name):
     word, writer, number, deed, answer, looks = trust.content(name)
     if word != "sheet" or writer != hand or not trust.sealed(("hand", hand), name):
         return False
-    if not is_count(number) or number == 0 or not is_place(deed, MOST_DEEDS) or not is_count(answer):
+    if not counts_from_one(number) or not is_place(deed, MOST_DEEDS) or not is_count(answer):
         return False
     return _are_looks(trust, store, hand, number, looks)
 
@@ -73,16 +86,43 @@ def row_of(stock):
     return tuple([len(sheets) for sheets in stock])
 
 
-def _rows_up_to(trust, stock, row):
-    """The rows of all looks in the first sheets of each hand, as many as the row tells."""
+def no_sheets(store):
+    """The stock without sheets."""
+    return ((),) * store[0]
+
+
+def noughts(store):
+    """The row of all noughts."""
+    return (0,) * store[0]
+
+
+def sheets_between(stock, low, high):
+    """The tuple of the names of the sheets above the row low up to the row high, hand by hand."""
+    return tuple([name for sheets, had, many in zip(stock, low, high) for name in sheets[had:many]])
+
+
+def looks_up_to(trust, stock, row):
+    """The looks in the first sheets of each hand, as many as the row tells: hand by hand, as they stand there."""
     names = [name for many, sheets in zip(row, stock) for name in sheets[:many]]
-    return [look[0] for name in names for look in looks_of_sheet(trust, name)]
+    return [look for name in names for look in looks_of_sheet(trust, name)]
+
+
+def looks_told(trust, stock):
+    """The looks in all sheets of the stock, hand by hand, as they stand there."""
+    return looks_up_to(trust, stock, row_of(stock))
 
 
 def rows_told(trust, store, stock):
     """The ascending list, each once, of the rows of all looks in the sheets of the stock."""
     _check_stock(trust, store, stock)
-    return sorted(set(_rows_up_to(trust, stock, row_of(stock))))
+    return sorted(set([look[0] for look in looks_told(trust, stock)]))
+
+
+def closes(trust, stock, row):
+    """Whether a stock reaches the row, and the row is closed in it."""
+    if not below(row, row_of(stock)):
+        return False
+    return all([below(look[0], row) for look in looks_up_to(trust, stock, row)])
 
 
 def is_closed(trust, store, stock, row):
@@ -90,6 +130,23 @@ def is_closed(trust, store, stock, row):
     _check_stock(trust, store, stock)
     if not is_row_for(row, store[0]):
         raise BadRow("no row")
-    if not below(row, row_of(stock)):
+    return closes(trust, stock, row)
+
+
+def _is_next(trust, store, hand, many, name):
+    """Whether any value is the name of the sheet of the hand that comes behind so many."""
+    # The number is looked at first: most sheets that come were taken in before, and to look at all of one takes long.
+    if not trust.is_name(name) or not is_tuple_of(trust.content(name), 6) or number_of_sheet(trust, name) != many + 1:
         return False
-    return all([below(told, row) for told in _rows_up_to(trust, stock, row)])
+    return _is_sheet(trust, store, hand, name)
+
+
+def taken_in(trust, store, stock, names):
+    """The stock into which the names are taken, those that are no next sheet of a hand being passed over."""
+    lists = [list(sheets) for sheets in stock]
+    for name in names:
+        # A name that was put to one hand's sheets is none of another hand.
+        for hand in range(store[0]):
+            if _is_next(trust, store, hand, len(lists[hand]), name):
+                lists[hand].append(name)
+    return tuple([tuple(sheets) for sheets in lists])

@@ -14,16 +14,21 @@ def is_heard(trust, store, value):
     return ascends(value) and len(set([house_in(trust, name) for name in value])) == len(value)
 
 
-def _is_kept(trust, low, kept):
-    """Whether heard sayings, asked about nothing, tell that their houses keep the row low."""
-    return all([about_in(trust, name) == () and below(low, row_in(trust, name)) for name in kept])
-
-
-def _is_had(trust, high, kept, had):
-    """Whether heard sayings, asked about those kept, tell together the row high."""
-    if not all([about_in(trust, name) == kept for name in had]):
+def is_kept(trust, store, low, value):
+    """Whether any value is a lot of heard sayings about nothing that tell that their houses keep the row low."""
+    if not is_heard(trust, store, value):
         return False
-    return joined([row_in(trust, name) for name in had]) == high
+    return all([about_in(trust, name) == () and below(low, row_in(trust, name)) for name in value])
+
+
+def is_had(trust, store, kept, value):
+    """Whether any value is a lot of heard sayings about those of the lot kept."""
+    return is_heard(trust, store, value) and all([about_in(trust, name) == kept for name in value])
+
+
+def row_had(trust, had):
+    """The joined row of heard sayings."""
+    return joined([row_in(trust, name) for name in had])
 
 
 def _is_span(trust, store, value):
@@ -32,9 +37,9 @@ def _is_span(trust, store, value):
     low, high, kept, had = value
     if not is_row_for(low, hands) or not is_row_for(high, hands) or not below(low, high):
         return False
-    if not is_heard(trust, store, kept) or not is_heard(trust, store, had):
+    if not is_kept(trust, store, low, kept) or not is_had(trust, store, kept, had):
         return False
-    return _is_kept(trust, low, kept) and _is_had(trust, high, kept, had)
+    return row_had(trust, had) == high
 
 
 def is_span(trust, store, value):
@@ -55,10 +60,15 @@ def is_look(trust, store, value):
     return is_tuple_of(value, 3) and _is_span(trust, store, span_of(value))
 
 
-def are_parted(trust, store, one, other):
-    """Whether the low of neither span is below the high of the other one."""
+def check_two_spans(trust, store, one, other):
+    """BadSpan for one and for other, if they are no spans."""
     if not is_span(trust, store, one):
         raise BadSpan("one is no span")
     if not is_span(trust, store, other):
         raise BadSpan("other is no span")
+
+
+def are_parted(trust, store, one, other):
+    """Whether the low of neither span is below the high of the other one."""
+    check_two_spans(trust, store, one, other)
     return not below(one[0], other[1]) and not below(other[0], one[1])

@@ -1,6 +1,6 @@
 """Tables: what their deeds do, which states are alike, which deeds commute or overwrite, tables made of tables."""
 
-from seenatonce.checks import is_count, is_number, is_place, is_tuple_of
+from seenatonce.checks import is_count, is_list, is_number, is_place, is_tuple_of
 from seenatonce.errors import BadDeed, BadDeeds, BadSize, BadState, BadTable, TooLarge
 
 MOST_STATES = 30
@@ -50,7 +50,7 @@ def done(table, state, deeds):
     """The pair of the state that is reached by all deeds, one behind the other, and the list of their answers."""
     check_table(table)
     check_state(table, state)
-    if not isinstance(deeds, (list, tuple)) or not all([is_deed(table, deed) for deed in deeds]):
+    if not is_list(deeds) or not all([is_deed(table, deed) for deed in deeds]):
         raise BadDeeds("no list of deeds of the table")
     answers = []
     for deed in deeds:

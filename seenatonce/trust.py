@@ -9,6 +9,18 @@ def has_name_form(value):
     return is_tuple_of(value, 2) and value[0] == "name" and is_count(value[1])
 
 
+def are_names_by_form(value):
+    """Whether any value is a tuple of names by their form alone."""
+    return isinstance(value, tuple) and all([has_name_form(name) for name in value])
+
+
+def has_content_form(value):
+    """Whether any value is a content, if all names were given."""
+    if isinstance(value, tuple):
+        return all([has_content_form(item) for item in value])
+    return value is None or isinstance(value, str) or is_number(value)
+
+
 def _is_who(value):
     return is_tuple_of(value, 2) and value[0] in ("hand", "house") and is_count(value[1])
 

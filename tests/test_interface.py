@@ -6,6 +6,9 @@ import inspect
 import unittest
 from pathlib import Path
 
+from seenatonce.disks import Disk
+from seenatonce.trust import Trust
+
 PACKAGE = Path(__file__).resolve().parent.parent / "seenatonce"
 # In the sequence of the document: each module imports only from those ahead of it.
 MODULES = {
@@ -29,8 +32,25 @@ MODULES = {
              "are_parted(trust, store, one, other)",
     "sheets": "is_sheet(trust, store, hand, name), is_stock(trust, store, value), row_of(stock), "
               "rows_told(trust, store, stock), is_closed(trust, store, stock, row)",
+    "letters": "is_letter(store, value)",
+    "disks": "",
+    "houses": "",
+    "roads": "",
+    "lots": "is_lot(table, value), looks_order(table, lot), sees(table, lot, one, other), within(table, lot, row), "
+            "lot_of(trust, store, table, stock, row)",
+    "webs": "edges(table, lot), left_out(table, lot), way_back(table, lot, one, other), sequence_of(table, lot), "
+            "is_sequence(table, lot, value), led_along(table, begin, lot, sequence), state_of(table, begin, lot), "
+            "answers_due(table, begin, lot), is_borne(table, begin, lot), grown(table, begin, lot, hand, deed, row)",
 }
-CLASSES = {"trust": {"Trust": "name(content), is_name(value), content(name), size(), seal(who, name), sealed(who, name)"}}
+# Each class as it is made, its methods, and its attributes.
+CLASSES = {
+    "trust": ("Trust()", "name(content), is_name(value), content(name), size(), seal(who, name), sealed(who, name)", ""),
+    "disks": ("Disk(cells, fuse)", "read(cell), write(cell, value), cells()", "fuse"),
+    "houses": ("House(trust, store, number, disk)", "stock(), past(), row(), hear(letter)", "trust store number disk"),
+    "roads": ("Road(store)", "send(letter), count(), letter(number), waiting(receiver)", "store"),
+}
+STORE = (2, 4, 1)
+MADE_OF = {"cells": {}, "fuse": None, "trust": Trust(), "store": STORE, "number": 1, "disk": Disk({}, None)}
 
 
 def parts(text):
@@ -53,13 +73,22 @@ class Interface(unittest.TestCase):
                 self.assertEqual(list(inspect.signature(call).parameters), parameters, name)
 
     def test_classes(self):
-        for module, classes in CLASSES.items():
-            for kind, text in classes.items():
-                made = getattr(importlib.import_module(f"seenatonce.{module}"), kind)
-                self.assertEqual(made.__module__, f"seenatonce.{module}")
-                for name, parameters in parts(text):
-                    self.assertIn(name, vars(made))
-                    self.assertEqual(list(inspect.signature(vars(made)[name]).parameters), ["self", *parameters])
+        for module, (made, methods, _) in CLASSES.items():
+            ((kind, wanted),) = parts(made)
+            told = getattr(importlib.import_module(f"seenatonce.{module}"), kind)
+            self.assertEqual(told.__module__, f"seenatonce.{module}")
+            self.assertEqual(list(inspect.signature(told).parameters), wanted)
+            for name, parameters in parts(methods):
+                self.assertIn(name, vars(told))
+                self.assertEqual(list(inspect.signature(vars(told)[name]).parameters), ["self", *parameters])
+
+    def test_attributes(self):
+        for module, (made, _, attributes) in CLASSES.items():
+            ((kind, wanted),) = parts(made)
+            one = getattr(importlib.import_module(f"seenatonce.{module}"), kind)(**{name: MADE_OF[name] for name in wanted})
+            for name in attributes.split():
+                self.assertIn(name, vars(one))
+                self.assertEqual(getattr(one, name), MADE_OF.get(name, getattr(one, name)))
 
     def test_the_package_defines_nothing(self):
         self.assertEqual((PACKAGE / "__init__.py").read_text().strip(), "")
