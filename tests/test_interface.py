@@ -7,6 +7,7 @@ import unittest
 from pathlib import Path
 
 from seenatonce.disks import Disk
+from seenatonce.tables import counting_table
 from seenatonce.trust import Trust
 
 PACKAGE = Path(__file__).resolve().parent.parent / "seenatonce"
@@ -41,6 +42,14 @@ MODULES = {
     "webs": "edges(table, lot), left_out(table, lot), way_back(table, lot, one, other), sequence_of(table, lot), "
             "is_sequence(table, lot, value), led_along(table, begin, lot, sequence), state_of(table, begin, lot), "
             "answers_due(table, begin, lot), is_borne(table, begin, lot), grown(table, begin, lot, hand, deed, row)",
+    "court": "named(trust, store, one, other), went_back(trust, store, row, kept, had), "
+             "spans_in_line(trust, store, spans)",
+    "mending": "cells_of(store, disk), mended(trust, store, hand, cells)",
+    # No module of the document: the rounds of hands.
+    "rounds": "",
+    "hands": "",
+    "histories": "is_history(table, value), is_ahead(table, history, one, other), beginning(table, history, moment)",
+    "cells": "clash_of(many, begin, history), cell_order(many, begin, history)",
 }
 # Each class as it is made, its methods, and its attributes.
 CLASSES = {
@@ -48,9 +57,11 @@ CLASSES = {
     "disks": ("Disk(cells, fuse)", "read(cell), write(cell, value), cells()", "fuse"),
     "houses": ("House(trust, store, number, disk)", "stock(), past(), row(), hear(letter)", "trust store number disk"),
     "roads": ("Road(store)", "send(letter), count(), letter(number), waiting(receiver)", "store"),
+    "hands": ("Hand(trust, store, table, begin, number, disk)", "call(deed), hear(letter), again(), answer()",
+              "trust store table begin number disk life"),
 }
-STORE = (2, 4, 1)
-MADE_OF = {"cells": {}, "fuse": None, "trust": Trust(), "store": STORE, "number": 1, "disk": Disk({}, None)}
+MADE_OF = {"cells": {}, "fuse": None, "trust": Trust(), "store": (2, 4, 1), "table": counting_table(3), "begin": 2,
+           "number": 1, "disk": Disk({}, None)}
 
 
 def parts(text):
@@ -88,7 +99,7 @@ class Interface(unittest.TestCase):
             one = getattr(importlib.import_module(f"seenatonce.{module}"), kind)(**{name: MADE_OF[name] for name in wanted})
             for name in attributes.split():
                 self.assertIn(name, vars(one))
-                self.assertEqual(getattr(one, name), MADE_OF.get(name, getattr(one, name)))
+                self.assertEqual(getattr(one, name), MADE_OF.get(name, 1))
 
     def test_the_package_defines_nothing(self):
         self.assertEqual((PACKAGE / "__init__.py").read_text().strip(), "")
