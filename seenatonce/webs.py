@@ -54,15 +54,12 @@ def _wishes(table, lot):
 
 def _web(table, lot):
     """For each deed of a lot the list of the deeds to which it has an edge; and the list of the edges left out."""
-    order = in_order_of_looks(lot)
-    places = {deed: place for place, deed in enumerate(order)}
     heads = _seen_edges(lot)
     omitted = []
     for ahead, behind in _wishes(table, lot):
-        # Edges lead back from an old deed to a new one ahead of it exactly if the old one has an edge to a deed that
-        # the new one sees; from a new one none lead to an old one ahead of it.
-        leads_back = places[ahead] > places[behind] and any([does_see(lot, ahead, deed) for deed in heads[behind]])
-        if leads_back:
+        # Edges lead back exactly if the one that would be behind has an edge to a deed that the one ahead sees. This
+        # never is so where an old deed is to be ahead of a new one.
+        if any([does_see(lot, ahead, deed) for deed in heads[behind]]):
             omitted.append((ahead, behind))
         else:
             heads[ahead].append(behind)

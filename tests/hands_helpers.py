@@ -10,6 +10,21 @@ from tests.helpers import Book
 TABLE = counting_table(3)
 
 
+def sealed_sheets(trust):
+    """The contents of all sheets that their hands sealed, by their names."""
+    told = {}
+    for k in range(trust.size()):
+        content = trust.content(("name", k))
+        if isinstance(content, tuple) and content[:1] == ("sheet",) and trust.sealed(("hand", content[1]), ("name", k)):
+            told[("name", k)] = content
+    return told
+
+
+def numbers_sealed(trust):
+    """The pairs of a hand and a number of all sheets that are sealed."""
+    return [content[1:3] for content in sealed_sheets(trust).values()]
+
+
 class Stage:
     """A hand, and a book in which the houses say what a test lets them say."""
 
@@ -125,12 +140,3 @@ class Town:
         """A whole call: its answer."""
         self.finish(self.hands[number].call(deed), houses)
         return self.hands[number].answer()
-
-    def sheets(self):
-        """The contents of all sheets that are sealed, by the names."""
-        told = {}
-        for k in range(self.trust.size()):
-            content = self.trust.content(("name", k))
-            if isinstance(content, tuple) and content[:1] == ("sheet",) and self.trust.sealed(("hand", content[1]), ("name", k)):
-                told[("name", k)] = content
-        return told

@@ -9,7 +9,7 @@ from seenatonce.hands import Hand
 from seenatonce.sheets import is_sheet, is_stock, row_of
 from seenatonce.spans import are_parted, is_look, span_of
 from seenatonce.tables import counting_table
-from tests.hands_helpers import TABLE, Stage, Town
+from tests.hands_helpers import TABLE, Stage, Town, numbers_sealed
 from tests.helpers import GREATEST, Book, bends, check_refused, check_sequence, odd_values
 from tests.test_lots import NO_TABLE
 from tests.test_sayings import NO_STORE, NO_TRUST
@@ -58,7 +58,7 @@ class OneHandAndOneHouse(unittest.TestCase):
         town = Town((1, 1, 0))
         answers = [town.call(0, deed) for deed in (0, 2, 0, 2, 0, 2, 1, 2)]
         self.assertEqual(answers, [("done", told) for told in (0, 1, 0, 2, 0, 0, 0, 0)])
-        self.assertEqual(len(town.sheets()), 8)
+        self.assertEqual(numbers_sealed(town.trust), [(0, k + 1) for k in range(8)])
 
     def test_begin_is_the_state_ahead_of_all_deeds(self):
         for begin in range(3):
@@ -285,6 +285,25 @@ class RightAnswers(unittest.TestCase):
         self.hand.hear((*letter[:2], ("have", 2, 1, *letter[2][3:])))
         self.assertEqual(len(self.hand.again()), 3)
 
+    def test_more_hands_than_houses(self):
+        stage = Stage((6, 1, 0), number=4)
+        self.book, self.stage = stage.book, stage
+        self.hand = stage.up()
+        sheets = tuple(self.book.sheet(hand, 1, (self.book.look((0,) * 6),)) for hand in (0, 5))
+        self.hand.call(2)
+        for hand in range(6):
+            for body in (("ask", 1, 1, (0,) * 6, ()), ("keep", 1, 1, ())):
+                self.check_nothing((("hand", hand), ("house", 0), body))
+        row = (1, 0, 0, 0, 0, 1)
+        self.assertEqual(stage.collect(row, sheets)[0][2], ("keep", 1, 2, ()))
+        stage.keep(row)
+        stage.collect(row)
+        sheet = stage.disk.read("sheet")
+        self.hand = stage.back()
+        self.assertEqual(self.hand.again(), [(("hand", 4), ("house", 0), ("keep", 2, 1, (sheets[0], sheet, sheets[1])))])
+        stage.keep((1, 0, 0, 0, 1, 1))
+        self.assertEqual(self.hand.answer(), ("done", 2))
+
     def test_a_house_that_answered_already(self):
         self.hand.call(0)
         late = self.stage.have(2, (0, 1), (self.one,))
@@ -401,9 +420,8 @@ class Collecting(unittest.TestCase):
         self.stage.collect((0, 1, 0))
         self.assertEqual(self.stage.disk.read("looks")[0][:2], cells["last"])
 
-    def test_looks_that_were_taken_stay(self):
-        # The hand fell behind "looks": its next sheet tells both looks.
-        b = self.sheet(1, 1, (0, 0, 0))
+    def fall_behind_a_look(self):
+        """The hand takes a look and falls ahead of writing its sheet."""
         self.stage.disk = Disk({}, 3)
         self.hand = self.stage.up()
         self.hand.call(0)
@@ -412,6 +430,11 @@ class Collecting(unittest.TestCase):
         with self.assertRaises(Fell):
             self.stage.collect((0, 0, 0))
         self.assertEqual(sorted(self.stage.disk.cells()), ["last", "life", "looks"])
+
+    def test_looks_that_were_taken_stay(self):
+        # The hand fell behind "looks": its next sheet tells both looks.
+        b = self.sheet(1, 1, (0, 0, 0))
+        self.fall_behind_a_look()
         self.hand = self.stage.back()
         self.assertEqual((self.hand.again(), self.hand.answer()), ([], None))
         looks = self.stage.disk.read("looks")
@@ -424,13 +447,7 @@ class Collecting(unittest.TestCase):
         self.assertEqual(self.stage.disk.read("looks"), told[5])
 
     def test_a_look_with_the_row_of_the_last_one_is_not_written(self):
-        self.stage.disk = Disk({}, 3)
-        self.hand = self.stage.up()
-        self.hand.call(0)
-        self.stage.collect((0, 0, 0))
-        self.stage.keep((0, 0, 0))
-        with self.assertRaises(Fell):
-            self.stage.collect((0, 0, 0))
+        self.fall_behind_a_look()
         looks = self.stage.disk.read("looks")
         self.hand = self.stage.back(2)
         self.hand.call(1)
@@ -741,16 +758,6 @@ class Telling(unittest.TestCase):
         self.assertEqual(turns, [("ask", 1, 1), ("keep", 1, 2), ("ask", 1, 3), ("keep", 1, 4), ("ask", 1, 5)])
         self.stage.back().call(0)
         self.assertEqual(self.stage.hand.again()[0][2][:3], ("ask", 2, 1))
-
-
-def numbers_sealed(trust):
-    """The pairs of a hand and a number of all sheets that are sealed."""
-    told = []
-    for k in range(trust.size()):
-        content = trust.content(("name", k))
-        if isinstance(content, tuple) and content[:1] == ("sheet",) and trust.sealed(("hand", content[1]), ("name", k)):
-            told.append(content[1:3])
-    return told
 
 
 class Tables(unittest.TestCase):

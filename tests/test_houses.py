@@ -138,6 +138,13 @@ class Hearing(unittest.TestCase):
         self.watched.said(keep(self.b, self.d, self.d), (2, 2), ())
         self.assertEqual(self.house.stock(), self.stock)
 
+    def test_names_of_any_contents_are_passed_over(self):
+        contents = (None, 5, "", "sh", (), ("sheet",), ("sheet", 0), ("sheet", 0, 1), ("sheet", 0, 1, 0, 0, 1), (0, 0, 1, 0, 0, 0),
+                    ("sheet", 0, 1, 0, 0, ()), self.book.trust.content(self.a), self.a)
+        names = [self.book.trust.name((1, content)) for content in contents] + [self.book.trust.name(content) for content in contents]
+        self.watched.said(keep(*names), (1, 0), ())
+        self.assertEqual(self.house.stock(), ((self.a,), ()))
+
     def house_saying(self):
         self.house.hear(ask())
         return self.house.past()[-1]

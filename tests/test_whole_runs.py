@@ -16,6 +16,7 @@ from seenatonce.sheets import row_of
 from seenatonce.tables import cells_table, counting_table, greatest_table, growing_table
 from seenatonce.trust import Trust
 from seenatonce.webs import is_borne
+from tests.hands_helpers import sealed_sheets
 from tests.helpers import below, parted
 from tests.lots_helpers import EXAMPLE
 from tests.test_cells import has_order
@@ -87,7 +88,7 @@ class World:
         """A call that fell ahead of its sheet's write leaves no sheet; another one ends in a later life."""
         call = self.open.get(number)
         if call is not None and self.disks[("hand", number)].read("sheet") is None:
-            self.case.assertNotIn((number, call.number), [content[1:3] for content in self.sheets().values()])
+            self.case.assertNotIn((number, call.number), [content[1:3] for content in sealed_sheets(self.trust).values()])
             self.calls.remove(self.open.pop(number))
 
     # Events.
@@ -158,15 +159,6 @@ class World:
 
     # What is looked at.
 
-    def sheets(self):
-        """The contents of all sheets that are sealed, by their names."""
-        told = {}
-        for k in range(self.trust.size()):
-            content = self.trust.content(("name", k))
-            if isinstance(content, tuple) and content[:1] == ("sheet",) and self.trust.sealed(("hand", content[1]), ("name", k)):
-                told[("name", k)] = content
-        return told
-
     def look_at(self, number, letters):
         case, hand = self.case, self.up[("hand", number)]
         call = self.open.get(number)
@@ -231,7 +223,7 @@ class World:
 
     def check_sheets(self):
         """Each number is sealed once, and there are no gaps."""
-        told = sorted(content[1:3] for content in self.sheets().values())
+        told = sorted(content[1:3] for content in sealed_sheets(self.trust).values())
         self.case.assertEqual(told, sorted(set(told)))
         for hand, number in told:
             self.case.assertTrue(number == 1 or (hand, number - 1) in told)
@@ -247,7 +239,7 @@ class World:
         """With at most lies liars: one lot that bears what is due, looks that hold what had ended, and an order."""
         case, hands = self.case, self.store[0]
         case.assertEqual(self.lied, {})
-        names = {content[1:3]: name for name, content in self.sheets().items()}
+        names = {content[1:3]: name for name, content in sealed_sheets(self.trust).items()}
         stock = tuple(tuple(names[(h, k + 1)] for k in range(sum(hand == h for hand, _ in names))) for h in range(hands))
         rows = [look[0] for name in names.values() for look in self.trust.content(name)[5]]
         case.assertFalse(any(parted(one, other) for one, other in combinations(rows, 2)))
