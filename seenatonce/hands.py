@@ -57,7 +57,7 @@ class Hand:
         self._deed = None
         # Of the first collect of the call: its row, its sayings, and the cell "last" then.
         self._first = None
-        # Of the last collect of the call: the row of each house that was heard.
+        # Of the last collect of this life: the row of each house that was heard.
         self._rows = {}
         self._come_up()
 
@@ -70,7 +70,6 @@ class Hand:
             raise Busy("a round is open")
         self._deed = deed
         self._first = None
-        self._rows = {}
         return self._ask()
 
     def hear(self, letter):

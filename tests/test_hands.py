@@ -364,10 +364,10 @@ class Collecting(unittest.TestCase):
         self.assertEqual([town.call(h, d) for h, d in ((0, 0), (1, 0), (2, 2), (0, 2), (1, 1), (0, 2))],
                          [("done", told) for told in (0, 0, 2, 2, 0, 0)])
 
-    def lent_stage(self, last=None):
+    def lent_stage(self):
         """The first collect shows (0, 0, 0), and then hand 1 is two sheets ahead."""
         self.sheets = [self.sheet(1, k + 1, (0, k, 0)) for k in range(3)]
-        self.hand.call(0)
+        self.hand.call(2)
         self.stage.collect((0, 0, 0))
         self.stage.keep((0, 0, 0))
         self.assertEqual(self.hand.again()[0][2][:3], ("ask", 1, 3))
@@ -380,12 +380,13 @@ class Collecting(unittest.TestCase):
         self.assertEqual(self.stage.disk.read("last"), look[:2])
         self.assertEqual(self.stage.disk.read("looks"), (look,))
         sheet = self.stage.disk.read("sheet")
-        self.assertEqual(self.book.trust.content(sheet), ("sheet", 0, 1, 0, 0, (look,)))
+        # The answer is that at the row of the look, though the stock has one more.
+        self.assertEqual(self.book.trust.content(sheet), ("sheet", 0, 1, 2, 1, (look,)))
         # Told up to the row of the look, not up to that of the collect.
         self.assertEqual([letter[2][3] for letter in letters], [(sheet,), (sheet,), (sheet, self.sheets[0]), (sheet, self.sheets[0])])
         self.stage.keep((1, 1, 0))
         self.assertEqual(self.stage.disk.read("last")[0], (1, 1, 0))
-        self.assertEqual(self.hand.answer(), ("done", 0))
+        self.assertEqual(self.hand.answer(), ("done", 1))
 
     def test_still_more_than_two(self):
         self.lent_stage()
@@ -529,6 +530,17 @@ class LiedTo(unittest.TestCase):
         self.assertGreaterEqual(len(papers), 2)
         self.check_lied(self.stage.have(0, (0, 2, 2), (sheets[3],)), papers, cells)
 
+    def fall_behind(self, sheet, row):
+        """The hand falls behind taking a look with this row, and comes back."""
+        self.stage.disk = Disk({}, 4)
+        self.hand = self.stage.up()
+        self.hand.call(0)
+        self.stage.collect(row, (sheet,))
+        self.stage.keep(row)
+        with self.assertRaises(Fell):
+            self.stage.collect(row)
+        self.hand = self.stage.back()
+
     def test_what_is_no_right_answer_does_not_lie(self):
         # The sheets are parted, but the row of the saying is not reached; so nothing is taken in.
         sheets, _ = self.parted_sheets()
@@ -540,19 +552,23 @@ class LiedTo(unittest.TestCase):
     def test_parted_from_the_hands_own_looks(self):
         # The hand fell behind taking the look (0, 1, 0); now a sheet of hand 2 tells (0, 0, 1).
         sheets, looks = self.parted_sheets()
-        self.stage.disk = Disk({}, 4)
-        self.hand = self.stage.up()
-        self.hand.call(0)
-        self.stage.collect((0, 1, 0), (sheets[0],))
-        self.stage.keep((0, 1, 0))
-        with self.assertRaises(Fell):
-            self.stage.collect((0, 1, 0))
-        self.hand = self.stage.back()
+        self.fall_behind(sheets[0], (0, 1, 0))
         (own,) = self.stage.disk.read("looks")
         self.hand.call(0)
         cells = self.stage.disk.cells()
         papers = named(self.stage.trust, (3, 4, 1), span_of(looks[3]), span_of(own))
         self.check_lied(self.stage.have(2, (0, 1, 2), (sheets[1], sheets[3])), papers, cells)
+
+    def test_looks_in_sheets_come_ahead_of_the_hands_own(self):
+        # The look of the one sheet is parted from that of the other, and from the hand's own (0, 1, 0) as well.
+        sheets, looks = self.parted_sheets()
+        self.fall_behind(sheets[0], (0, 1, 0))
+        one, two = self.sheet(1, 2, (0, 1, 1)), self.sheet(2, 2, (1, 0, 1))
+        mine = self.sheet(0, 1, (0, 0, 0))
+        self.hand.call(0)
+        cells = self.stage.disk.cells()
+        papers = named(self.stage.trust, (3, 4, 1), *[span_of(self.book.trust.content(name)[5][0]) for name in (one, two)])
+        self.check_lied(self.stage.have(3, (1, 2, 2), (mine, sheets[1], one, two)), papers, cells)
 
     def test_the_look_that_is_taken_is_parted_from_one_in_a_sheet(self):
         # Sheets of hand 1 tell (0, 1, 0); the hand is shown (0, 0, 1), and not that sheet, in its own row.
