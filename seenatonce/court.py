@@ -8,7 +8,7 @@ from seenatonce.spans import check_two_spans, is_had, is_kept, is_span
 from seenatonce.trust import check_book
 
 
-def _named_by(trust, names):
+def named_by(trust, names):
     """For each house of which two of these sayings make a paper, ascending, the house and that of the least pair."""
     ascending = sorted(set(names))
     found = {}
@@ -23,7 +23,7 @@ def _named_by(trust, names):
 def named(trust, store, one, other):
     """The ascending tuple of pairs (house, paper), for all houses that the sayings in the two spans convict."""
     check_two_spans(trust, store, one, other)
-    return _named_by(trust, one[2] + one[3] + other[2] + other[3])
+    return named_by(trust, one[2] + one[3] + other[2] + other[3])
 
 
 def went_back(trust, store, row, kept, had):
@@ -35,7 +35,7 @@ def went_back(trust, store, row, kept, had):
         raise BadHeard("kept is no lot of heard sayings that keep the row")
     if not is_had(trust, store, kept, had):
         raise BadHeard("had is no lot of heard sayings about those of kept")
-    return _named_by(trust, kept + had)
+    return named_by(trust, kept + had)
 
 
 def _sequence_told(spans):

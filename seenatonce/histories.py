@@ -49,6 +49,15 @@ def check_history(table, history):
         raise BadHistory("no history for the table")
 
 
+def are_places(history, value):
+    """Whether any value is a list of unlike places of calls, among them all calls that are not open."""
+    if not is_list(value) or not all([is_place(place, len(history)) for place in value]):
+        return False
+    if len(set(value)) != len(value):
+        return False
+    return all([end is None or place in value for place, (_, _, end, _, _) in enumerate(history)])
+
+
 def is_ahead(table, history, one, other):
     """Whether the call at the place one is ahead of the call at the place other."""
     check_history(table, history)

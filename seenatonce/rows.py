@@ -41,6 +41,14 @@ def is_below(one, other):
     return below(one, other)
 
 
+def rows_below(row):
+    """The ascending list of all rows that are below a row."""
+    rows = [()]
+    for most in row:
+        rows = [told + (item,) for told in rows for item in range(most + 1)]
+    return rows
+
+
 def _check_some_rows(rows):
     check_rows(rows)
     if not rows:

@@ -2,7 +2,7 @@
 
 from seenatonce.checks import below, counts_from_one, is_count, is_place, is_row_for, is_tuple_of
 from seenatonce.errors import BadHand, BadRow, BadStock
-from seenatonce.rows import is_line
+from seenatonce.rows import is_line, joined
 from seenatonce.spans import is_look
 from seenatonce.tables import MOST_DEEDS
 from seenatonce.trust import check_book
@@ -76,7 +76,8 @@ def is_stock(trust, store, value):
     return all([_are_sheets(trust, store, hand, sheets) for hand, sheets in enumerate(value)])
 
 
-def _check_stock(trust, store, stock):
+def check_stock(trust, store, stock):
+    """BadTrust, BadStore, then BadStock for what is no stock."""
     if not is_stock(trust, store, stock):
         raise BadStock("no stock")
 
@@ -114,7 +115,7 @@ def looks_told(trust, stock):
 
 def rows_told(trust, store, stock):
     """The ascending list, each once, of the rows of all looks in the sheets of the stock."""
-    _check_stock(trust, store, stock)
+    check_stock(trust, store, stock)
     return sorted(set([look[0] for look in looks_told(trust, stock)]))
 
 
@@ -125,9 +126,18 @@ def closes(trust, stock, row):
     return all([below(look[0], row) for look in looks_up_to(trust, stock, row)])
 
 
+def closed_above(trust, stock, row):
+    """The least closed row of a stock that the row is below; None if the stock reaches none."""
+    told = None
+    while row != told and below(row, row_of(stock)):
+        told = row
+        row = joined([row] + [look[0] for look in looks_up_to(trust, stock, row)])
+    return row if row == told else None
+
+
 def is_closed(trust, store, stock, row):
     """Whether the stock reaches the row, and the rows of all looks in the sheets up to it are below it."""
-    _check_stock(trust, store, stock)
+    check_stock(trust, store, stock)
     if not is_row_for(row, store[0]):
         raise BadRow("no row")
     return closes(trust, stock, row)

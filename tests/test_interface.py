@@ -50,6 +50,14 @@ MODULES = {
     "hands": "",
     "histories": "is_history(table, value), is_ahead(table, history, one, other), beginning(table, history, moment)",
     "cells": "clash_of(many, begin, history), cell_order(many, begin, history)",
+    "orders": "is_order(table, begin, history, value), order_of(table, begin, history), "
+              "states_behind(table, begin, history), first_wrong(table, begin, history)",
+    "points": "points_of(table, history, places)",
+    "parts": "split_history(one, other, history), joined_order(one, other, begin, history, first, second)",
+    "shown": "is_scene(trust, store, stock, value), led(trust, store, stock, scene, plan), "
+             "plan_to_show(trust, store, stock, scene, row), rows_shown(trust, store, stock, scene)",
+    "sure": "liars_in(trust, store, known), keepers_of(trust, store, known, row), is_behind(trust, store, known, look), "
+            "miss_of(trust, store, known, row), is_miss(trust, store, known, row, value), sure_row(trust, store, known)",
 }
 # Each class as it is made, its methods, and its attributes.
 CLASSES = {
