@@ -8,7 +8,8 @@ from seenatonce.sheets import row_of
 from seenatonce.tables import check_deed, check_state, check_table, does_overwrite, first_clash
 
 
-def _check_served(table):
+def check_served(table):
+    """BadTable for what is no table, then NotServed."""
     check_table(table)
     pair = first_clash(table)
     if pair is not None:
@@ -17,12 +18,12 @@ def _check_served(table):
 
 
 def _check_web(table, lot):
-    _check_served(table)
+    check_served(table)
     check_lot(table, lot)
 
 
 def _check_begun(table, begin, lot):
-    _check_served(table)
+    check_served(table)
     check_state(table, begin)
     check_lot(table, lot)
 

@@ -1,6 +1,6 @@
 """The form of the program: what of the rules L1 to L28 can be seen in its text.
 
-The program uses less than the rules let: no generators, no try, no match, no sets that are kept.
+The program uses less than the rules let: no generators, no match, no sets that are kept, and a try for one own error.
 """
 
 import ast
@@ -22,7 +22,7 @@ methodcaller os quit setattr type vars sys typing enum Enum namedtuple dataclass
 BARRED_BEGINS = ("_wall", "_pe_", "_dcw_", "_enum_", "_cm_", "_twin_re_", "_lay_", "_law_", "_stub_", "_sre", "_cold",
                  "_tuplegetter", "_outside", "_record", "_written_out", "_member_names", "__")
 STATEMENTS = (ast.Assign, ast.AugAssign, ast.Expr, ast.FunctionDef, ast.ClassDef, ast.If, ast.While, ast.For, ast.Return,
-              ast.Raise, ast.Delete, ast.Break, ast.Continue, ast.Pass, ast.ImportFrom, ast.Assert)
+              ast.Raise, ast.Delete, ast.Break, ast.Continue, ast.Pass, ast.ImportFrom, ast.Assert, ast.Try)
 NOT_USED = (ast.GeneratorExp, ast.SetComp, ast.Set, ast.Lambda, ast.NamedExpr, ast.Div, ast.Pow, ast.Yield, ast.YieldFrom,
             ast.Await)
 
@@ -128,6 +128,13 @@ class Form(unittest.TestCase):
                     self.assertTrue(isinstance(other, ast.Constant) and other.value is None, place)
         for place, node in self.each(ast.Starred):
             self.assertFalse(isinstance(node.value, ast.Call), place)
+
+    def test_only_own_errors_are_caught(self):
+        own = {node.name for node in nodes(self.trees["errors.py"], ast.ClassDef)}
+        for place, node in self.each(ast.Try):
+            self.assertEqual((len(node.handlers), node.orelse, node.finalbody), (1, [], []), place)
+            self.assertTrue(isinstance(node.handlers[0].type, ast.Name) and node.handlers[0].name is None, place)
+            self.assertIn(node.handlers[0].type.id, own, place)
 
     def test_methods_that_are_called(self):
         own = {one.name for _, node in self.each(ast.ClassDef) for one in node.body if isinstance(one, ast.FunctionDef)}

@@ -7,6 +7,7 @@ import unittest
 from pathlib import Path
 
 from seenatonce.disks import Disk
+from seenatonce.roads import Road
 from seenatonce.tables import counting_table
 from seenatonce.trust import Trust
 
@@ -58,6 +59,15 @@ MODULES = {
              "plan_to_show(trust, store, stock, scene, row), rows_shown(trust, store, stock, scene)",
     "sure": "liars_in(trust, store, known), keepers_of(trust, store, known, row), is_behind(trust, store, known, look), "
             "miss_of(trust, store, known, row), is_miss(trust, store, known, row, value), sure_row(trust, store, known)",
+    "forget": "least_next(table, lot, hand), holder_of(table, lot, row), forgettable(table, lot), "
+              "folded(table, begin, lot, row)",
+    "clauses": "clauses(), parted_without(trust, store, clause)",
+    "drills": "care_rules(), drilled(frame, liars, without, run)",
+    "rules": "few_run(houses, lies), run_without(rule)",
+    # No module of the document: houses that lie.
+    "crowds": "",
+    "runs": "",
+    "texts": "table_text(table), read_table(text), history_text(table, history), read_history(table, text)",
 }
 # Each class as it is made, its methods, and its attributes.
 CLASSES = {
@@ -67,9 +77,14 @@ CLASSES = {
     "roads": ("Road(store)", "send(letter), count(), letter(number), waiting(receiver)", "store"),
     "hands": ("Hand(trust, store, table, begin, number, disk)", "call(deed), hear(letter), again(), answer()",
               "trust store table begin number disk life"),
+    "drills": ("Drill(frame, liars, without)", "act(act), is_act(act), looks(), sheets(), rows(), letters(), hand_at(hand), wrong()",
+               "frame liars without"),
+    "runs": ("Play(table, begin, store, liars, picks)", "call(hand, deed), bring(number), again(hand), fall(who, writes), back(who), "
+             "is_gone(who), cells_of(who), moment(), row_of_house(house), hand_at(hand), answer(hand), history()",
+             "table begin store trust road liars"),
 }
 MADE_OF = {"cells": {}, "fuse": None, "trust": Trust(), "store": (2, 4, 1), "table": counting_table(3), "begin": 2,
-           "number": 1, "disk": Disk({}, None)}
+           "number": 1, "disk": Disk({}, None), "frame": (2, 4, 1), "liars": (3,), "without": "told", "picks": [1, 2]}
 
 
 def parts(text):
@@ -107,7 +122,10 @@ class Interface(unittest.TestCase):
             one = getattr(importlib.import_module(f"seenatonce.{module}"), kind)(**{name: MADE_OF[name] for name in wanted})
             for name in attributes.split():
                 self.assertIn(name, vars(one))
-                self.assertEqual(getattr(one, name), MADE_OF.get(name, 1))
+                if (module, name) in (("runs", "trust"), ("runs", "road")):
+                    self.assertIs(getattr(one, name).__class__, {"trust": Trust, "road": Road}[name])
+                else:
+                    self.assertEqual(getattr(one, name), MADE_OF.get(name, 1))
 
     def test_the_package_defines_nothing(self):
         self.assertEqual((PACKAGE / "__init__.py").read_text().strip(), "")
