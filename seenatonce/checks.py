@@ -1,6 +1,6 @@
 """What numbers, rows and stores are, and for how many houses a round waits."""
 
-from seenatonce.errors import BadStore
+from seenatonce.errors import BadRow, BadStore
 
 # A number has at most 18 digits.
 GREATEST = 999999999999999999
@@ -65,6 +65,12 @@ def check_store(store):
     """BadStore for what is no store."""
     if not is_store(store):
         raise BadStore("no store: hands from 1 to 6, houses above 3 * lies and up to 13")
+
+
+def check_row(store, row):
+    """BadRow for what is no row for the hands of the store."""
+    if not is_row_for(row, store[0]):
+        raise BadRow("no row for the hands of the store")
 
 
 def need_of(store):

@@ -1,7 +1,7 @@
 """The court: which houses what they sealed convicts, and spans on one line."""
 
-from seenatonce.checks import below, is_list, is_row_for
-from seenatonce.errors import BadHeard, BadRow, BadSpan
+from seenatonce.checks import below, check_row, is_list
+from seenatonce.errors import BadHeard, BadSpan
 from seenatonce.rows import joined
 from seenatonce.sayings import house_in, paper_of_told
 from seenatonce.spans import check_two_spans, is_had, is_kept, is_span
@@ -29,8 +29,7 @@ def named(trust, store, one, other):
 def went_back(trust, store, row, kept, had):
     """The same for the sayings of kept, which told the row, and of had, which were told of them."""
     check_book(trust, store)
-    if not is_row_for(row, store[0]):
-        raise BadRow("no row")
+    check_row(store, row)
     if not is_kept(trust, store, row, kept):
         raise BadHeard("kept is no lot of heard sayings that keep the row")
     if not is_had(trust, store, kept, had):

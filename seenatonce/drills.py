@@ -2,7 +2,7 @@
 
 from seenatonce.checks import MOST_HANDS, MOST_HOUSES, ascends, below, is_list, is_place, is_row_for, is_tuple_of
 from seenatonce.errors import BadAct, BadFrame, BadHand, BadLiars, BadRule, BadRun
-from seenatonce.rows import are_apart, joined
+from seenatonce.rows import are_apart, joined, one_more
 
 MOST_ACTS = 300
 
@@ -31,11 +31,6 @@ def _check_drill(frame, liars, without):
         raise BadLiars("no few ascending numbers of houses")
     if without is not None and without not in care_rules():
         raise BadRule("no care rule")
-
-
-def _one_more(row, hand):
-    """The row with one sheet more of the hand."""
-    return row[:hand] + (row[hand] + 1,) + row[hand + 1:]
 
 
 class Seat:
@@ -286,7 +281,7 @@ class Drill:
             return
         seat.written = row
         self._seal(hand, row)
-        aim = _one_more(row, hand)
+        aim = one_more(row, hand)
         seat.begin_round("keep", aim, True)
         if self.without == "ended":
             self._end_sheet(hand, aim)
@@ -315,7 +310,7 @@ class Drill:
         seat = self._seats[hand]
         seat.fall()
         if seat.written is not None and self.without != "told on":
-            seat.begin_round("keep", _one_more(seat.written, hand), True)
+            seat.begin_round("keep", one_more(seat.written, hand), True)
 
 
 def drilled(frame, liars, without, run):

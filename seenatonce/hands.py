@@ -8,7 +8,7 @@ from seenatonce.letters import is_letter
 from seenatonce.lots import lot_up_to
 from seenatonce.mending import cells_of, check_hand, mended
 from seenatonce.rounds import Round
-from seenatonce.rows import first_parted, on_one_line
+from seenatonce.rows import first_parted, on_one_line, one_more
 from seenatonce.sayings import about_in, house_in, is_told, row_in
 from seenatonce.sheets import answer_of_sheet, closes, looks_told, noughts, own_look, row_of, sheets_between, taken_in
 from seenatonce.spans import row_had, span_of
@@ -20,11 +20,6 @@ from seenatonce.webs import state_behind
 def _with_sheet(stock, hand, name):
     """The stock with one sheet more of the hand."""
     return stock[:hand] + (stock[hand] + (name,),) + stock[hand + 1:]
-
-
-def _one_more(row, hand):
-    """The row with one sheet more of the hand."""
-    return row[:hand] + (row[hand] + 1,) + row[hand + 1:]
 
 
 def _parted_looks(looks):
@@ -195,7 +190,7 @@ class Hand:
         self.trust.seal(("hand", self.number), sheet)
         row = own_look(self.trust, sheet)[0]
         stock = _with_sheet(self._cells()["stock"], self.number, sheet)
-        return self._keep(stock, _one_more(row, self.number))
+        return self._keep(stock, one_more(row, self.number))
 
     def _hear_kept(self, house, saying):
         """Hears that a house keeps what is told; the letters that follow."""

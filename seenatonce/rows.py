@@ -41,6 +41,11 @@ def is_below(one, other):
     return below(one, other)
 
 
+def one_more(row, hand):
+    """The row with one sheet more of the hand."""
+    return row[:hand] + (row[hand] + 1,) + row[hand + 1:]
+
+
 def rows_below(row):
     """The ascending list of all rows that are below a row."""
     rows = [()]

@@ -1,7 +1,7 @@
 """Sheets that hands sealed, and stocks of them."""
 
-from seenatonce.checks import below, counts_from_one, is_count, is_place, is_row_for, is_tuple_of
-from seenatonce.errors import BadHand, BadRow, BadStock
+from seenatonce.checks import below, check_row, counts_from_one, is_count, is_place, is_tuple_of
+from seenatonce.errors import BadHand, BadStock
 from seenatonce.rows import is_line, joined
 from seenatonce.spans import is_look
 from seenatonce.tables import MOST_DEEDS
@@ -138,8 +138,7 @@ def closed_above(trust, stock, row):
 def is_closed(trust, store, stock, row):
     """Whether the stock reaches the row, and the rows of all looks in the sheets up to it are below it."""
     check_stock(trust, store, stock)
-    if not is_row_for(row, store[0]):
-        raise BadRow("no row")
+    check_row(store, row)
     return closes(trust, stock, row)
 
 

@@ -1,8 +1,8 @@
 """What houses that lie can bring a hand to take for a look: scenes, plans of answers, rows that can be shown."""
 
-from seenatonce.checks import ascends, below, is_place, is_row_for, is_tuple_of, need_of
-from seenatonce.errors import BadPlan, BadRow, BadScene, TooMany
-from seenatonce.rows import is_line, joined, on_one_line, rows_below
+from seenatonce.checks import ascends, below, check_row, is_place, is_row_for, is_tuple_of, need_of
+from seenatonce.errors import BadPlan, BadScene, TooMany
+from seenatonce.rows import is_line, joined, on_one_line, one_more, rows_below
 from seenatonce.sheets import check_stock, closed_above, closes, looks_up_to, noughts, own_look, row_of
 
 MOST_SHOWN = 1000
@@ -85,10 +85,13 @@ def _lent(trust, stock, last, sheet):
     return ("look", row) if last is None or below(last, row) else ("lied", "lent")
 
 
-def _outcome(trust, stock, scene, back, first, row):
-    """What comes of a collect with this row, behind a row that was told back; None if the row is told back."""
+def _outcome(trust, stock, scene, known, back, first, row):
+    """What comes of a collect with this row, behind a row that was told back; None if the row is told back.
+
+    The row known is that of all collects up to this one.
+    """
     _, last, _, _, _ = scene
-    rows = _told(trust, stock, scene, row)
+    rows = _told(trust, stock, scene, known)
     if not on_one_line(rows):
         return ("lied", "parted")
     if back is not None and not below(back, row):
@@ -105,11 +108,11 @@ def led(trust, store, stock, scene, plan):
     if not _is_plan(trust, store, stock, scene, plan):
         raise BadPlan("no plan")
     _, back, _, _, rows = scene
-    firsts = []
+    collected = []
     for collect in plan:
         row = joined([rows[house] if told is None else told for house, told in collect])
-        firsts.append(row)
-        came_of_it = _outcome(trust, stock, scene, back, firsts[0], row)
+        collected.append(row)
+        came_of_it = _outcome(trust, stock, scene, joined(collected), back, collected[0], row)
         if came_of_it is not None:
             return came_of_it
         back = row
@@ -182,25 +185,20 @@ def _collected(trust, stock, scene, bases, row):
     return (once,) if last == row else (once, once)
 
 
-def _one_more(row, hand):
-    """The row with one sheet more of the hand."""
-    return row[:hand] + (row[hand] + 1,) + row[hand + 1:]
-
-
 def _least_firsts(trust, stock, last, base, row, lender):
     """The least rows that can be collected first, above the base, ahead of the one with which the lender lends."""
     # Of each hand ahead of the lender the later collect, which is above the row, may have one sheet more at most.
     floor = tuple([max(many - 1, 0) if hand < lender else 0 for hand, many in enumerate(row)])
     least = closed_above(trust, stock, joined([base, floor] + ([] if last is None else [last])))
     if least == last and last is not None:
-        return [closed_above(trust, stock, _one_more(last, hand)) for hand in range(len(last))]
+        return [closed_above(trust, stock, one_more(last, hand)) for hand in range(len(last))]
     return [least]
 
 
 def _lent_by_liars(trust, stock, scene, bases, row, lender):
     """A plan of two collects, with a liar in both, behind which the lender lends the row; None if there is none."""
     _, last, _, _, rows = scene
-    sheet = _one_more(row, lender)
+    sheet = one_more(row, lender)
     for base, houses in bases.items():
         for first in _least_firsts(trust, stock, last, base, row, lender):
             if first is None or first[lender] >= row[lender]:
@@ -252,8 +250,7 @@ def _plan(trust, stock, scene, bases, row):
 def plan_to_show(trust, store, stock, scene, row):
     """A plan by which the hand takes a look with the row; None if there is none."""
     _check_scene(trust, store, stock, scene)
-    if not is_row_for(row, store[0]):
-        raise BadRow("no row")
+    check_row(store, row)
     return _plan(trust, stock, scene, _bases(store, scene[4]), row)
 
 

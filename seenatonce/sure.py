@@ -1,8 +1,8 @@
 """What is sure behind sayings that somebody was told, and what later looks may miss."""
 
-from seenatonce.checks import ascends, is_list, is_place, is_row_for, is_tuple_of, need_of
+from seenatonce.checks import ascends, check_row, is_list, is_place, is_tuple_of, need_of
 from seenatonce.court import named_by
-from seenatonce.errors import BadLook, BadRow, BadSaying, MoreLie
+from seenatonce.errors import BadLook, BadSaying, MoreLie
 from seenatonce.sayings import house_in, is_told, number_in, row_in
 from seenatonce.spans import is_look
 from seenatonce.trust import check_book
@@ -12,11 +12,6 @@ def _check_known(trust, store, known):
     check_book(trust, store)
     if not is_list(known) or not all([is_told(trust, store, name) for name in known]):
         raise BadSaying("no list of names of sayings")
-
-
-def _check_row(store, row):
-    if not is_row_for(row, store[0]):
-        raise BadRow("no row")
 
 
 def _liars(trust, known):
@@ -48,7 +43,7 @@ def _keepers(trust, store, known, row):
 def keepers_of(trust, store, known, row):
     """For each hand the ascending tuple of the houses that have told so many sheets of it, and are not convicted."""
     _check_known(trust, store, known)
-    _check_row(store, row)
+    check_row(store, row)
     return _keepers(trust, store, known, row)
 
 
@@ -88,7 +83,7 @@ def _miss(store, liars, hand, keepers):
 def miss_of(trust, store, known, row):
     """A miss of the row: a hand, houses that may lie, and houses that a look can hear alone; None if it is sure."""
     _check_liars(trust, store, known)
-    _check_row(store, row)
+    check_row(store, row)
     liars = _liars(trust, known)
     keepers = _keepers(trust, store, known, row)
     misses = [_miss(store, liars, hand, keepers[hand]) for hand in range(store[0])]
@@ -104,7 +99,7 @@ def _are_houses(store, value):
 def is_miss(trust, store, known, row, value):
     """Whether any value is a miss of the row."""
     _check_liars(trust, store, known)
-    _check_row(store, row)
+    check_row(store, row)
     if not is_tuple_of(value, 3) or not is_place(value[0], store[0]):
         return False
     hand, liars, heard = value

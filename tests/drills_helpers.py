@@ -1,14 +1,8 @@
 """What the tests of drills share: a drill by the document's own words, drawn acts, and whole calls."""
 
-from itertools import combinations
-
-from tests.helpers import below, parted
+from tests.helpers import below, join, parted
 
 RULES = ("told", "again", "enough", "unlike", "turn", "life", "closed", "two", "lent", "ended", "written", "told on", "holds", "houses")
-
-
-def join(*rows):
-    return tuple(max(items) for items in zip(*rows))
 
 
 class PlainDrill:
@@ -194,7 +188,3 @@ def rounds(hand, houses, many, count):
             acts += [("reply", hand, house, None), ("hear", count)]
             count += 1
     return acts
-
-
-def any_parted_rows(rows):
-    return any(parted(one, other) for one, other in combinations(rows, 2))

@@ -1,6 +1,7 @@
 """What the tests share: values of other kinds, bent values, error checks, books with sayings and sheets."""
 
 import random
+from itertools import combinations
 
 from seenatonce.errors import SeenError
 from seenatonce.trust import Trust
@@ -70,6 +71,20 @@ def below(one, other):
 
 def parted(one, other):
     return not below(one, other) and not below(other, one)
+
+
+def join(*rows):
+    return tuple(max(items) for items in zip(*rows))
+
+
+def any_parted(rows):
+    """Whether any two of some rows are parted."""
+    return any(parted(one, other) for one, other in combinations(rows, 2))
+
+
+def row_of_tuples(value):
+    """How many items each of some tuples has: the row of a stock or of a lot."""
+    return tuple(len(items) for items in value)
 
 
 def drawn_rows(draw, many, items, top):

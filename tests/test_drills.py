@@ -6,8 +6,8 @@ from itertools import product
 
 from seenatonce.drills import Drill, care_rules, drilled
 from seenatonce.errors import BadAct, BadFrame, BadHand, BadLiars, BadRule, BadRun
-from tests.drills_helpers import PlainDrill, RULES, any_parted_rows, drawn_act, drawn_frame, rounds, shown
-from tests.helpers import bends, check_refused, check_sequence, odd_values
+from tests.drills_helpers import PlainDrill, RULES, drawn_act, drawn_frame, rounds, shown
+from tests.helpers import any_parted, bends, check_refused, check_sequence, odd_values
 
 
 def acted(frame, liars, without, acts):
@@ -214,7 +214,7 @@ class Drawn(unittest.TestCase):
                     if drill.hand_at(hand)[5] > before[hand]:
                         ends[(hand, drill.hand_at(hand)[5])] = moment
                 self.assertIsNone(drill.wrong())
-            self.assertFalse(any_parted_rows([row for _, row, _ in drill.looks()]))
+            self.assertFalse(any_parted([row for _, row, _ in drill.looks()]))
             for hand, sheets in enumerate(drill.sheets()):
                 self.assertTrue(drill.hand_at(hand)[5] <= len(sheets) <= drill.hand_at(hand)[5] + 1)
                 self.assertEqual([row[hand] for row in sheets], list(range(len(sheets))))

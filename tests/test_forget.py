@@ -9,7 +9,7 @@ from seenatonce.forget import folded, forgettable, holder_of, least_next
 from seenatonce.lots import is_lot, within
 from seenatonce.tables import counting_table
 from seenatonce.webs import answers_due, grown, left_out, sequence_of, state_of
-from tests.helpers import below, bends, check_refused, check_sequence, odd_values, parted
+from tests.helpers import below, bends, check_refused, check_sequence, odd_values, parted, row_of_tuples
 from tests.lots_helpers import EXAMPLE, deeds_in, drawn_lot, drawn_served_table
 from tests.test_lots import LOT, NO_LOT, NO_TABLE, TABLE, lots, sees_all
 
@@ -17,10 +17,6 @@ from tests.test_lots import LOT, NO_LOT, NO_TABLE, TABLE, lots, sees_all
 BY_HAND = (((0, 0, (0, 0)),), ((0, 0, (1, 0)),))
 # Two deeds that put what was there beside, so that neither commutes with the other nor overwrites it.
 NOT_SERVED = (((0, 0), (0, 1)), ((1, 0), (1, 1)))
-
-
-def top(lot):
-    return tuple(len(items) for items in lot)
 
 
 def rows_below(row):
@@ -33,7 +29,7 @@ def looks_in(lot):
 
 def next_rows(lot, hand):
     """All rows that the look of the hand's next deed can have."""
-    return [row for row in rows_below(top(lot)) if row[hand] == len(lot[hand]) and not any(parted(row, other) for other in looks_in(lot))]
+    return [row for row in rows_below(row_of_tuples(lot)) if row[hand] == len(lot[hand]) and not any(parted(row, other) for other in looks_in(lot))]
 
 
 def grows_to(lot, hand, row):
@@ -80,7 +76,7 @@ def drawn_long_lot(draw, table, hands, tries):
     lot, last = ((),) * hands, (0,) * hands
     for _ in range(tries):
         hand = draw.randrange(hands)
-        rows = [row for row in ([tuple(draw.randint(a, b) if draw.random() < 0.4 else b for a, b in zip(last, top(lot)))])]
+        rows = [row for row in ([tuple(draw.randint(a, b) if draw.random() < 0.4 else b for a, b in zip(last, row_of_tuples(lot)))])]
         row = rows[0][:hand] + (len(lot[hand]),) + rows[0][hand + 1:]
         if not any(parted(row, other) for other in looks_in(lot)):
             last = max(last, row)
@@ -139,7 +135,7 @@ class ByHand(unittest.TestCase):
     def test_sixty_deeds_and_sixty_one(self):
         lot = [(), ()]
         for k in range(60):
-            lot[k % 2] += ((0, 0, top(lot)),)
+            lot[k % 2] += ((0, 0, row_of_tuples(lot)),)
         lot = tuple(lot)
         self.assertEqual(least_next(TABLE, lot, 0), (30, 29))
         self.assertEqual(least_next(TABLE, lot, 1), (30, 30))
@@ -175,7 +171,7 @@ class Drawn(unittest.TestCase):
         held = {None: 0, "deed": 0, "look": 0}
         for table, lot in self.each(1021, 120):
             greatest = forgettable(table, lot)
-            for row in rows_below(top(lot)):
+            for row in rows_below(row_of_tuples(lot)):
                 holder = holder_of(table, lot, row)
                 self.assertEqual(holder, holder_by_words(lot, row))
                 held[holder and holder[0]] += 1
@@ -187,8 +183,8 @@ class Drawn(unittest.TestCase):
     def test_against_all_lots_to_which_a_lot_grows(self):
         many = 0
         for table, lot in self.each(1022, 40):
-            further = list(grown_lots(lot, 2 if sum(top(lot)) < 5 else 1))
-            for row in rows_below(top(lot)):
+            further = list(grown_lots(lot, 2 if sum(row_of_tuples(lot)) < 5 else 1))
+            for row in rows_below(row_of_tuples(lot)):
                 self.assertEqual(holder_of(table, lot, row) is None, all(sees_the_whole(other, row) for other in further))
             for other in further[:40]:
                 many += 1
@@ -202,7 +198,7 @@ class Drawn(unittest.TestCase):
     def test_a_row_that_the_next_deed_of_each_hand_sees_may_be_forgotten(self):
         many = 0
         for table, lot in self.each(1023, 150):
-            for row in rows_below(top(lot)):
+            for row in rows_below(row_of_tuples(lot)):
                 following = [(hand, number + 1) for hand, number in enumerate(row)]
                 if all(number <= len(lot[hand]) and below(row, lot[hand][number - 1][2]) for hand, number in following):
                     self.assertIsNone(holder_of(table, lot, row))
@@ -231,7 +227,7 @@ class Folded(unittest.TestCase):
     def check_grown(self, draw, table, begin, lot, row, state, rest):
         """A deed that the lot can be grown by is one that the rest can be grown by, and the other way about."""
         hand, deed = draw.randrange(len(lot)), draw.randrange(len(table))
-        for seen in rows_below(top(lot)):
+        for seen in rows_below(row_of_tuples(lot)):
             try:
                 whole = grown(table, begin, lot, hand, deed, seen)
             except BadRow:
@@ -252,11 +248,11 @@ class Folded(unittest.TestCase):
             table = drawn_served_table(draw)
             lot = drawn_long_lot(draw, table, draw.randint(1, 3), draw.randint(1, 9)) if draw.random() < 0.8 else drawn_lot(draw, table, 3, 6)
             begin = draw.randrange(len(table[0]))
-            for row in rows_below(top(lot)):
+            for row in rows_below(row_of_tuples(lot)):
                 if holder_of(table, lot, row) is None:
                     state, rest = self.check(table, begin, lot, row)
                     self.check_grown(draw, table, begin, lot, row, state, rest)
-                    proper += 0 < sum(row) < sum(top(lot))
+                    proper += 0 < sum(row) < sum(row_of_tuples(lot))
                 else:
                     with self.assertRaises(StillHeld) as caught:
                         folded(table, begin, lot, row)

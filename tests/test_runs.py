@@ -16,7 +16,7 @@ from seenatonce.sayings import convicted, is_paper, paper_of
 from seenatonce.tables import counting_table
 from seenatonce.trust import Trust
 from tests.hands_helpers import numbers_sealed, sealed_sheets
-from tests.helpers import check_refused, check_sequence, odd_values, parted
+from tests.helpers import any_parted, check_refused, check_sequence, odd_values
 from tests.plays_helpers import Events, PlainPlay, TABLES, all_of, do, shown
 from tests.test_lots import NO_TABLE
 from tests.test_sayings import NO_STORE
@@ -455,7 +455,7 @@ class Drawn(unittest.TestCase):
                 cells = play.cells_of(("hand", hand))
                 names = [name for sheets in cells.get("stock", ()) for name in sheets]
                 rows = {look[0] for name in names for look in play.trust.content(name)[5]} | {look[0] for look in cells.get("looks", ())}
-                self.assertFalse(any(parted(one, other) for one, other in combinations(rows, 2)))
+                self.assertFalse(any_parted(rows))
 
     def finish(self, play):
         """All come back; each hand's letters are brought to need houses that answer: each call ends, in few rounds."""

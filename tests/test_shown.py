@@ -6,16 +6,8 @@ from itertools import combinations, product
 
 from seenatonce.errors import BadPlan, BadRow, BadScene, BadStock, BadStore, BadTrust, TooMany
 from seenatonce.shown import is_scene, led, plan_to_show, rows_shown
-from tests.helpers import Book, below, bends, check_refused, check_sequence, drawn_stock, odd_values, parted
+from tests.helpers import Book, any_parted, below, bends, check_refused, check_sequence, drawn_stock, join, odd_values, row_of_tuples
 from tests.test_sayings import NO_STORE, NO_TRUST
-
-
-def join(*rows):
-    return tuple(max(items) for items in zip(*rows))
-
-
-def row_of_stock(stock):
-    return tuple(len(sheets) for sheets in stock)
 
 
 def rows_up_to(trust, stock, row):
@@ -29,14 +21,10 @@ def closed_rows(trust, stock):
     return [row for row in rows if all(below(told, row) for told in rows_up_to(trust, stock, row))]
 
 
-def any_parted(rows):
-    return any(parted(one, other) for one, other in combinations(rows, 2))
-
-
 def is_scene_by_words(trust, store, stock, scene):
     """By the words of [92], for a tuple of five items of the kinds told there."""
     hand, last, mine, took, rows = scene
-    top, closed = row_of_stock(stock), closed_rows(trust, stock)
+    top, closed = row_of_tuples(stock), closed_rows(trust, stock)
     if not below(mine, top) or mine[hand] != top[hand] or len(rows) != store[1]:
         return False
     if any(row is not None and row not in closed for row in rows):
@@ -113,7 +101,7 @@ def shown_by_search(trust, store, stock, scene):
 
 def drawn_scene(draw, trust, store, stock, liars):
     """A scene over the stock, whose hand has told some row back, or none; None if there is none of its hand."""
-    closed, top = closed_rows(trust, stock), row_of_stock(stock)
+    closed, top = closed_rows(trust, stock), row_of_tuples(stock)
     hand = draw.randrange(store[0])
     lasts = [row for row in closed if row[hand] == top[hand]] + ([None] if top[hand] == 0 else [])
     if not lasts:
@@ -252,7 +240,7 @@ class Scenes(unittest.TestCase):
         told = {True: 0, False: 0}
         for draw, trust, store, stock, scene in drawn_scenes(920, 120):
             self.assertIs(is_scene(trust, store, stock, scene), True)
-            top = row_of_stock(stock)
+            top = row_of_tuples(stock)
             for _ in range(8):
                 bent = list(scene)
                 for _ in range(draw.randint(1, 2)):
@@ -353,6 +341,19 @@ class Led(unittest.TestCase):
             self.assertEqual(led(book.trust, (3, 1, 0), stock, scene, (((0, (1, 1, 0)),),)), ("lied", "parted"))
             self.assertEqual(rows_shown(book.trust, (3, 1, 0), stock, scene), [] if mine[0] else [(0, 0, 0)])
 
+    def test_parted_rows_of_two_collects_that_go_back(self):
+        # Each collect is right by itself; what the hand knows behind both is parted, and that is looked at first.
+        store, no = (5, 1, 0), (0,) * 5
+        book = Book(store)
+        first, second = book.look((1, 0, 0, 0, 0)), book.look((0, 1, 0, 0, 0))
+        stock = (*((book.sheet(hand, 1, (look,)),) for hand, look in enumerate((book.look(no), book.look(no), first, second))), ())
+        for scene in ((4, None, no, (), (None,)), (4, no, no, (no,), (None,))):
+            for rows, told in ((((1, 0, 1, 0, 0), (0, 1, 0, 1, 0)), ("lied", "parted")), (((1, 0, 1, 0, 0), (0, 1, 0, 0, 0)), ("lied", "back")),
+                               (((1, 0, 0, 0, 0), (0, 1, 0, 1, 0)), ("lied", "back")), (((1, 0, 0, 0, 0), (1, 1, 1, 1, 0)), ("lied", "parted"))):
+                plan = tuple(((0, row),) for row in rows)
+                self.assertEqual(led(book.trust, store, stock, scene, plan), told)
+                self.assertEqual(led_by_words(book.trust, stock, scene, plan), told)
+
     def test_drawn(self):
         seen = {}
         for draw, trust, store, stock, scene in drawn_scenes(921, 700, 7):
@@ -373,7 +374,7 @@ class Led(unittest.TestCase):
                     led(trust, store, stock, scene, bent)
             for k, collect in enumerate(plan):
                 house, row = collect[0]
-                open_row = tuple(many + 1 for many in row_of_stock(stock))
+                open_row = tuple(many + 1 for many in row_of_tuples(stock))
                 wrong = [collect[:-1], collect + collect[-1:], ((house, open_row),) + collect[1:], collect[::-1] if len(collect) > 1 else (),
                          ((house, None if row else closed[0]),) + collect[1:], ((store[1], row),) + collect[1:], ((house, row, row),) + collect[1:]]
                 for bent in wrong:
