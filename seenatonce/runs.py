@@ -171,9 +171,8 @@ class Play:
         if told is None:
             return
         self._answers[hand] = told
-        begun = self._last.get(hand)
-        if told[0] == "done" and begun is not None and self._calls[begun][2] is None:
-            _, _, _, deed, _ = self._calls[begun]
+        _, begun, end, deed, _ = self._calls[self._last[hand]]
+        if told[0] == "done" and end is None:
             self._calls[begun] = (hand, begun, self._moment, deed, told[1])
 
     def _leave_out(self, hand):

@@ -15,7 +15,7 @@ def _is_closed_row(trust, stock, value):
 
 def _are_took(hand, last, mine, value):
     """Whether any value is the tuple of the rows of the looks that the hand took since its last sheet."""
-    if not isinstance(value, tuple) or not all([is_row_for(row, len(mine)) for row in value]) or not is_line(value):
+    if not is_line(value) or not all([len(row) == len(mine) for row in value]):
         return False
     return all([row[hand] == mine[hand] and below(row, last) for row in value])
 
@@ -159,15 +159,18 @@ def _other_houses(rows, houses, row):
 
 
 def _honest_plan(last, rows, bases, row):
-    """A plan by which houses that all keep to their rules show their joined row; None if there is none."""
+    """A plan by which houses that all keep to their rules show their joined row; None if there is none.
+
+    It may have more collects than are looked at.
+    """
     if joined([had for had in rows if below(had, row)]) != row:
         return None
     if last == row:
         return (_collect(rows, bases[row], row),) if row in bases else None
     for base, houses in bases.items():
         if below(base, row) and _may_follow(last, base) and not _lenders(base, row):
-            once, other = _collect(rows, houses, row), _collect(rows, _other_houses(rows, houses, row), row)
-            return (once, once) if base == row else (once, other, other)
+            other = _collect(rows, _other_houses(rows, houses, row), row)
+            return (_collect(rows, houses, row), other, other)
     return None
 
 
@@ -181,18 +184,15 @@ def _collected(trust, stock, scene, bases, row):
         return None
     if None not in rows:
         return _honest_plan(last, rows, bases, row)
-    once = _collect(rows, lots[0], row)
-    return (once,) if last == row else (once, once)
+    # If it is the last row, the second collect is not looked at.
+    return (_collect(rows, lots[0], row),) * 2
 
 
-def _least_firsts(trust, stock, last, base, row, lender):
-    """The least rows that can be collected first, above the base, ahead of the one with which the lender lends."""
+def _least_first(trust, stock, last, base, row, lender):
+    """The least row that can be collected first, above the base, ahead of a collect with which the lender lends."""
     # Of each hand ahead of the lender the later collect, which is above the row, may have one sheet more at most.
     floor = tuple([max(many - 1, 0) if hand < lender else 0 for hand, many in enumerate(row)])
-    least = closed_above(trust, stock, joined([base, floor] + ([] if last is None else [last])))
-    if least == last and last is not None:
-        return [closed_above(trust, stock, one_more(last, hand)) for hand in range(len(last))]
-    return [least]
+    return closed_above(trust, stock, joined([base, floor] + ([] if last is None else [last])))
 
 
 def _lent_by_liars(trust, stock, scene, bases, row, lender):
@@ -200,12 +200,13 @@ def _lent_by_liars(trust, stock, scene, bases, row, lender):
     _, last, _, _, rows = scene
     sheet = one_more(row, lender)
     for base, houses in bases.items():
-        for first in _least_firsts(trust, stock, last, base, row, lender):
-            if first is None or first[lender] >= row[lender]:
-                continue
-            second = joined([first, sheet])
-            if on_one_line(_told(trust, stock, scene, second)):
-                return (_collect(rows, houses, first), _collect(rows, houses, second))
+        first = _least_first(trust, stock, last, base, row, lender)
+        # That first is not the last row: all in the base would be below the row, which could be collected.
+        if first is None or first[lender] >= row[lender]:
+            continue
+        second = joined([first, sheet])
+        if on_one_line(_told(trust, stock, scene, second)):
+            return (_collect(rows, houses, first), _collect(rows, houses, second))
     return None
 
 
@@ -226,12 +227,13 @@ def _lent_by_honest(trust, stock, scene, bases, row, lender):
 
 def _borrowed(trust, stock, scene, bases, row):
     """A plan by which another hand lends the row of a sheet's own look; None if there is none."""
-    hand, last, _, _, rows = scene
+    _, last, _, _, rows = scene
     if not below(row, row_of(stock)) or last is not None and not below(last, row):
         return None
     for lender, sheets in enumerate(stock):
-        # The own look of a sheet has all sheets of its hand ahead of it.
-        if lender != hand and row[lender] < len(sheets) and own_look(trust, sheets[row[lender]])[0] == row:
+        # The own look of a sheet has all sheets of its hand ahead of it. The hand of the scene lends nothing: all its own
+        # sheets are below the last row.
+        if row[lender] < len(sheets) and own_look(trust, sheets[row[lender]])[0] == row:
             if None in rows:
                 plan = _lent_by_liars(trust, stock, scene, bases, row, lender)
             else:

@@ -6,6 +6,7 @@ from itertools import product
 
 from seenatonce.drills import Drill, care_rules, drilled
 from seenatonce.errors import BadAct, BadFrame, BadHand, BadLiars, BadRule, BadRun
+from seenatonce.rules import Script
 from tests.drills_helpers import PlainDrill, RULES, drawn_act, drawn_frame, rounds, shown
 from tests.helpers import any_parted, bends, check_refused, check_sequence, odd_values
 
@@ -269,12 +270,72 @@ class Wrong(unittest.TestCase):
         self.assertIsNone(drilled((2, 1, 0), (), "told", acts))
 
     def test_the_least_sheet_is_told(self):
-        acts, count = [], 0
-        for hand in (2, 1):
-            acts += [("call", hand), *rounds(hand, [0], 4, count)]
-            count += 4
-        acts += [("drop", 0), ("call", 0), *rounds(0, [0], 3, count)]
-        self.assertEqual(drilled((3, 1, 0), (), "holds", acts), ("wrong", len(acts) - 1, ("late", 2, 1, 1)))
+        # The house loses one sheet of hand 2 and two of hand 3.
+        script = Script()
+        script.call(3, [0], 4)
+        script.call(3, [0], 2)
+        script.call(2, [0], 4)
+        script.add("drop", 0)
+        script.call(0, [0], 3)
+        self.check((4, 1, 0), (), "holds", script, ("late", 3, 2, 1))
+
+    def test_the_first_of_two_amid_one_act(self):
+        # With one letter too few: hands 1 and 2 call ahead of all ends, hand 3 behind them.
+        script = Script()
+        script.add("call", 1)
+        script.add("call", 2)
+        script.call(0, [0], 4)
+        script.rounds(1, [1], 4)
+        script.rounds(2, [0], 3)
+        script.call(3, [1], 3)
+        self.check((4, 2, 0), (), "enough", script, ("parted", 2, 3))
+        plain = PlainDrill((4, 2, 0), (), "enough")
+        for act in script.run():
+            plain.do(act)
+        self.assertEqual(plain.faults, [("parted", 2, 3), ("late", 3, 0, 1)])
+
+    def test_the_least_look_from_which_one_is_parted(self):
+        script = Script()
+        for hand in (1, 2, 4, 3):
+            script.add("call", hand)
+        script.call(0, [0], 4)
+        script.rounds(1, [1], 4)
+        script.rounds(2, [0], 4)
+        script.rounds(4, [0], 3)
+        script.rounds(3, [1], 3)
+        self.check((5, 2, 0), (), "enough", script, ("parted", 2, 4))
+
+    def test_blind_looks_at_letters_of_asking_alone(self):
+        # House 0 keeps the sheet of hand 0 when it keeps what hand 2 tells back; no letter of asking tells it to hand 2.
+        script = Script()
+        script.call(2, [0, 1, 2], 1)
+        script.call(0, [0, 1, 2], 3)
+        script.sent(0, 0, None)
+        script.round(2, [0, 1, 2])
+        early = [script.sent(2, 1, None), script.sent(2, 2, None)]
+        script.call(1, [0, 1, 2], 4)
+        script.call(1, [0, 1, 2], 1)
+        for number in early + [script.sent(2, 3, (0, 2, 0))]:
+            script.add("hear", number)
+        self.check((3, 4, 1), (3,), "closed", script, ("blind", 3))
+        self.assertEqual(acted((3, 4, 1), (3,), "closed", script.run()).looks()[3], (2, (1, 1, 0), 1))
+
+    def test_the_least_hand_lends(self):
+        script = Script()
+        script.call(2, [0], 2)
+        for hand in (1, 0):
+            script.call(hand, [0], 4)
+            script.call(hand, [0], 2)
+        script.round(2, [0])
+        drill = acted((3, 1, 0), (), None, script.run())
+        self.assertEqual(drill.rows(), ((2, 2, 0),))
+        self.assertEqual(drill.looks()[-1], (2, (1, 2, 0), 0))
+
+    def check(self, frame, liars, rule, script, what):
+        """The run goes wrong so at its last act without the rule, and not with all rules."""
+        run = script.run()
+        self.assertEqual(drilled(frame, liars, rule, run), ("wrong", len(run) - 1, what))
+        self.assertTrue(drilled(frame, liars, None, run) is None or drilled(frame, liars, None, run)[0] == "bad")
 
     def test_long(self):
         # Each collect of hand 1 finds more, and nobody lends: 2 hands may need three.

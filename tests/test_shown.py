@@ -132,6 +132,31 @@ def drawn_plan(draw, trust, store, stock, scene):
     return plan
 
 
+def lagging_stock(draw, store, sheets):
+    """A book and a stock in it, whose looks are on one line that rises slowly; the last hand has none."""
+    book, stock, last = Book(store), [()] * store[0], (0,) * store[0]
+    for _ in range(sheets):
+        # Hand 1 has the most sheets.
+        hand = draw.choice((1, 1, draw.randrange(store[0] - 1)))
+        had = tuple(len(names) for names in stock)
+        row = tuple(draw.randint(low, high) if draw.random() < 0.15 else low for low, high in zip(last, had))
+        last = row = row[:hand] + (had[hand],) + row[hand + 1:]
+        stock[hand] += (book.sheet(hand, had[hand] + 1, (book.look(row),)),)
+    return book, tuple(stock)
+
+
+def late_scene(draw, trust, store, stock, liars):
+    """A scene of the last hand, which has done nothing; most houses know little."""
+    closed = sorted(closed_rows(trust, stock), key=sum)
+    last = draw.choice((None, None, *closed[:4]))
+    mine = join(closed[0], *([] if last is None else [last]), draw.choice((closed[0], draw.choice(closed))))
+    low = closed[:max(1, len(closed) // 3)]
+    rows = [draw.choice((draw.choice(low), draw.choice(low), draw.choice(closed))) for _ in range(store[1])]
+    for house in draw.sample(range(store[1]), liars):
+        rows[house] = None
+    return (store[0] - 1, last, mine, (), tuple(rows))
+
+
 STORES = [(1, 1, 0), (2, 1, 0), (2, 2, 0), (2, 3, 0), (2, 4, 1), (2, 4, 1), (3, 4, 1), (3, 4, 1), (3, 2, 0), (3, 1, 0),
           (2, 5, 1), (3, 5, 1), (4, 2, 0), (2, 7, 2)]
 
@@ -219,7 +244,9 @@ class Scenes(unittest.TestCase):
                 ((2, (1, 0, 0), (1, 0, 0), ((0, 1, 0),), rows), False), ((2, (2, 1, 0), (2, 1, 0), ((0, 1, 0),), rows), True),
                 ((2, (2, 1, 0), (2, 1, 0), ((0, 0, 1),), rows), False), ((2, (2, 1, 0), (2, 1, 0), ((0, 1, 0), (1, 0, 0)), rows), False),
                 ((1, (2, 1, 0), (2, 1, 0), ((1, 1, 0), (2, 1, 0)), rows), True), ((1, (2, 1, 0), (2, 1, 0), ((1, 0, 0), (2, 1, 0)), rows), False),
-                ((2, (1, 1, 0), (2, 1, 0), ((2, 1, 0),), rows), False)):
+                ((2, (1, 1, 0), (2, 1, 0), ((2, 1, 0),), rows), False), ((0, (2, 1, 0), (2, 1, 0), ((2, 0, 0),), rows), True),
+                ((0, (2, 1, 0), (2, 1, 0), ((2, 0),), rows), False), ((0, (2, 1, 0), (2, 1, 0), ((2,), (2, 0, 0)), rows), False),
+                ((0, (2, 1, 0), (2, 1, 0), ((2, 0, 0, 0),), rows), False), ((0, (2, 1, 0), (2, 1, 0), [(2, 0, 0)], rows), False)):
             self.check(scene, told)
 
     def test_rows_of_houses(self):
@@ -331,6 +358,93 @@ class Led(unittest.TestCase):
             lied += told == ("lied", "lent")
         self.assertGreater(lied, 0)
 
+    def lent_stock(self, hands):
+        """Two sheets of hand 0, then two of hand 1 that see them, and one of hand 2 that sees nothing, if there is a hand more."""
+        book, more = Book((hands, 4, 1)), (0,) * (hands - 2)
+        first = tuple(book.sheet(0, k + 1, (book.look((k, 0, *more)),)) for k in range(2))
+        second = tuple(book.sheet(1, k + 1, (book.look((2, k, *more)),)) for k in range(2))
+        third = ((book.sheet(2, 1, (book.look((0, 0, *more)),)),),) if hands == 4 else ()
+        return book, (first, second, *third, ())
+
+    def test_the_least_hand_lends(self):
+        book, stock = self.lent_stock(3)
+        scene = (2, None, (0, 0, 0), (), ((0, 0, 0),) * 3 + ((2, 2, 0),))
+        self.assertEqual(rows_shown(book.trust, (3, 4, 1), stock, scene), [(0, 0, 0), (1, 0, 0), (2, 2, 0)])
+        scene = (2, None, (0, 0, 0), (), ((1, 0, 0),) * 3 + ((2, 2, 0),))
+        self.assertEqual(rows_shown(book.trust, (3, 4, 1), stock, scene), [(1, 0, 0), (2, 1, 0), (2, 2, 0)])
+
+    def test_lent_though_an_honest_house_has_what_the_look_has_not(self):
+        book, stock = self.lent_stock(4)
+        for lent in ((1, 0, 0, 0), (2, 1, 0, 0)):
+            # A look of the first sheet of hand 1 has no sheet of it ahead, so that two more cannot be told.
+            scene = (3, None, (0, 0, 0, 0), (), ((0, 0, 1, 0), None, (0, 0, 1, 0), (0, 0, 1, 0)))
+            self.assertIn(lent, rows_shown(book.trust, (4, 4, 1), stock, scene))
+            plan = plan_to_show(book.trust, (4, 4, 1), stock, scene, lent)
+            self.assertEqual(led(book.trust, (4, 4, 1), stock, scene, plan), ("look", lent))
+        self.assertNotIn((2, 0, 0, 0), rows_shown(book.trust, (4, 4, 1), stock, scene))
+        self.assertEqual(rows_shown(book.trust, (4, 4, 1), stock, scene), shown_by_search(book.trust, (4, 4, 1), stock, scene))
+
+    def test_what_is_collected_ahead_of_a_lent_look_is_as_little_as_can_be(self):
+        store, no = (4, 2, 0), (0, 0, 0, 0)
+        # Hands and the looks of their sheets, one behind another; and the row that is lent.
+        for looks, lent in (([(0, (0, 0)), (1, (1, 0)), (1, (1, 1)), (0, (1, 2))], (1, 2, 0, 0)),
+                            ([(0, (0, 0)), (1, (1, 0)), (0, (1, 1)), (1, (2, 1))], (2, 1, 0, 0))):
+            book, stock = Book(store), [(), (), (), ()]
+            for hand, row in looks + [(2, (0, 0))]:
+                stock[hand] += (book.sheet(hand, len(stock[hand]) + 1, (book.look((*row, 0, 0)),)),)
+            for last in (None, no):
+                scene = (3, last, no, (), ((0, 0, 1, 0), None))
+                told = rows_shown(book.trust, store, tuple(stock), scene)
+                self.assertEqual(told, shown_by_search(book.trust, store, tuple(stock), scene))
+                self.assertIn(lent, told)
+                plan = plan_to_show(book.trust, store, tuple(stock), scene, lent)
+                self.assertEqual(led(book.trust, store, tuple(stock), scene, plan), ("look", lent))
+
+    def test_looks_that_tell_of_sheets_that_nobody_sealed(self):
+        store = (3, 1, 0)
+        book = Book(store)
+        stock = ((book.sheet(0, 1, (book.look((0, 5, 0)),)), book.sheet(0, 2, (book.look((1, 5, 0)),))), (book.sheet(1, 1, (book.look((2, 0, 0)),)),), ())
+        for last in (None, (0, 0, 0)):
+            for house in ((0, 0, 0), None):
+                scene = (2, last, (0, 0, 0), (), (house,))
+                self.assertEqual(rows_shown(book.trust, store, stock, scene), [(0, 0, 0)])
+                self.assertEqual(shown_by_search(book.trust, store, stock, scene), [(0, 0, 0)])
+                for row in ((2, 0, 0), (1, 5, 0), (0, 5, 0), (2, 5, 0)):
+                    self.assertIsNone(plan_to_show(book.trust, store, stock, scene, row))
+
+    def test_what_is_lent_and_what_the_hand_has_must_go_together(self):
+        store, no = (4, 4, 1), (0, 0, 0, 0)
+        book = Book(store)
+        stock = ((book.sheet(0, 1, (book.look(no),)),), (book.sheet(1, 1, (book.look(no),)), book.sheet(1, 2, (book.look((0, 1, 0, 0)),))),
+                 (book.sheet(2, 1, (book.look((1, 0, 0, 0)),)),), ())
+        for mine, told in ((no, [no, (0, 1, 0, 0), (0, 2, 0, 0)]), ((1, 0, 1, 0), [no])):
+            scene = (3, None, mine, (), (no, no, no, (0, 2, 0, 0)))
+            self.assertEqual(rows_shown(book.trust, store, stock, scene), told)
+            self.assertEqual(shown_by_search(book.trust, store, stock, scene), told)
+
+    def test_a_joined_row_for_which_all_are_to_be_heard(self):
+        store, top = (5, 4, 1), (1, 1, 1, 1, 0)
+        book = Book(store)
+        stock = (*((book.sheet(hand, 1, (book.look((0,) * 5),)),) for hand in range(4)), ())
+        rows = tuple((0,) * house + (1,) + (0,) * (4 - house) for house in range(4))
+        threes = sorted(join(*(rows[k] for k in range(4) if k != house)) for house in range(4))
+        self.assertEqual(rows_shown(book.trust, store, stock, (4, None, (0,) * 5, (), rows)), threes + [top])
+        # No three houses are at or above what was told back: each collect goes back.
+        self.assertEqual(rows_shown(book.trust, store, stock, (4, top, top, (), rows)), [])
+        self.assertEqual(rows_shown(book.trust, store, stock, (4, threes[0], top, (), rows)), [threes[0]])
+        for last in (None, top, threes[0], threes[1], (0, 0, 0, 0, 0), (0, 1, 0, 0, 0)):
+            scene = (4, last, top, (), rows)
+            self.assertEqual(rows_shown(book.trust, store, stock, scene), shown_by_search(book.trust, store, stock, scene))
+
+    def test_houses_that_have_more_are_not_heard(self):
+        store = (2, 7, 2)
+        book = Book(store)
+        stock = (tuple(book.sheet(0, k + 1, (book.look((k, 0)),)) for k in range(2)), ())
+        scene = (1, None, (0, 0), (), ((0, 0),) * 5 + ((1, 0), (2, 0)))
+        self.assertEqual(rows_shown(book.trust, store, stock, scene), [(0, 0), (1, 0), (2, 0)])
+        for row in ((0, 0), (1, 0), (2, 0)):
+            self.assertEqual(led(book.trust, store, stock, scene, plan_to_show(book.trust, store, stock, scene, row)), ("look", row))
+
     def test_parted_rows(self):
         book = Book((3, 1, 0))
         stock = ((book.sheet(0, 1, (book.look((0, 1, 0)),)),), (book.sheet(1, 1, (book.look((1, 0, 0)),)),), ())
@@ -412,6 +526,24 @@ class Exactly(unittest.TestCase):
                 self.assertEqual(rows_shown(book.trust, store, stock, scene), wanted, (store, scene))
                 lent += sum(not any(had is not None and below(row, had) for had in scene[4]) for row in wanted)
         self.assertGreater(lent, 20)
+
+    def test_looks_that_lag_behind(self):
+        # Each look has few sheets of others, so that houses have much that a lent look has not.
+        draw = random.Random(933)
+        lent = {"honest": 0, "liars": 0}
+        for _ in range(900):
+            store, liars = draw.choice((((3, 4, 1), 0), ((4, 4, 1), 0), ((3, 5, 1), 0), ((3, 4, 1), 1), ((3, 2, 0), 1), ((3, 3, 0), 1), ((4, 2, 0), 1)))
+            book, stock = lagging_stock(draw, store, draw.randint(3, 7))
+            scene = late_scene(draw, book.trust, store, stock, liars)
+            shown = rows_shown(book.trust, store, stock, scene)
+            self.assertEqual(shown, shown_by_search(book.trust, store, stock, scene), (store, scene))
+            for row in shown:
+                plan = plan_to_show(book.trust, store, stock, scene, row)
+                self.assertEqual(led_by_words(book.trust, stock, scene, plan), ("look", row))
+                self.assertEqual(led(book.trust, store, stock, scene, plan), ("look", row))
+                below_it = sum(had is None or below(had, row) for had in scene[4])
+                lent["liars" if None in scene[4] else "honest"] += below_it < store[1] - store[2]
+        self.assertGreater(min(lent.values()), 15, lent)
 
     def test_a_call_that_is_shown_what_had_ended(self):
         # With at most lies liars, what need houses keep is in each row that is shown.
