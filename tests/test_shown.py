@@ -161,7 +161,7 @@ STORES = [(1, 1, 0), (2, 1, 0), (2, 2, 0), (2, 3, 0), (2, 4, 1), (2, 4, 1), (3, 
           (2, 5, 1), (3, 5, 1), (4, 2, 0), (2, 7, 2)]
 
 
-def drawn_scenes(seed, many, most_sheets=5):
+def drawn_scenes(seed, many, most_sheets=5, with_book=False):
     draw = random.Random(seed)
     while many:
         store = draw.choice(STORES)
@@ -169,7 +169,7 @@ def drawn_scenes(seed, many, most_sheets=5):
         scene = drawn_scene(draw, book.trust, store, stock, draw.randint(0, store[1]))
         if scene is not None:
             many -= 1
-            yield draw, book.trust, store, stock, scene
+            yield draw, book if with_book else book.trust, store, stock, scene
 
 
 class Example(unittest.TestCase):
