@@ -202,6 +202,32 @@ class Falls(unittest.TestCase):
             self.assertEqual(sorted(numbers_sealed(play.trust)), sorted(set(numbers_sealed(play.trust))))
         self.assertEqual(ends, {"done", "left out", "told", "told on"})
 
+    def test_each_number_of_writes_of_a_house(self):
+        for writes in range(8):
+            play = new_play(store=(2, 1, 0))
+            play.fall(("house", 0), writes)
+            play.call(0, 0)
+            number = falls = 0
+            while number < play.road.count():
+                play.bring(number)
+                number += 1
+                if play.is_gone(("house", 0)):
+                    falls += 1
+                    self.assertIsNone(play.row_of_house(0))
+                    cells = play.cells_of(("house", 0))
+                    self.assertEqual(len(cells.get("past", ())), min(writes, 3))
+                    self.assertEqual("stock" in cells, writes == 4)
+                    play.back(("house", 0))
+                    self.assertEqual(play.cells_of(("house", 0)), cells)
+                    play.again(0)
+            # Three sayings, then the sheet and the saying behind it.
+            self.assertEqual(falls, int(writes < 5))
+            self.assertEqual((play.answer(0), play.row_of_house(0)), (("done", 0), (1, 0)))
+            # What it says goes on from there.
+            play.call(1, 2)
+            brought(play, number)
+            self.assertEqual(play.answer(1), ("done", 1))
+
     def test_an_event_amid_which_one_falls_ends_there(self):
         play = new_play(store=(1, 1, 0))
         play.call(0, 0)
@@ -457,6 +483,16 @@ class Drawn(unittest.TestCase):
                 rows = {look[0] for name in names for look in play.trust.content(name)[5]} | {look[0] for look in cells.get("looks", ())}
                 self.assertFalse(any_parted(rows))
 
+    def check_stocks(self, play):
+        """Point 43: all stocks have the same sheets of a hand, one more of them than the other; what is told of is older."""
+        stocks = [play.cells_of(who).get("stock", ((),) * play.store[0]) for who in all_of(play)]
+        for hand in range(play.store[0]):
+            longest = max((stock[hand] for stock in stocks), key=len)
+            self.assertTrue(all(longest[:len(stock[hand])] == stock[hand] for stock in stocks))
+        for name in sealed_sheets(play.trust):
+            inner = [told for look in play.trust.content(name)[5] for told in look[1] + look[2]]
+            self.assertTrue(all(told < name for told in inner))
+
     def finish(self, play):
         """All come back; each hand's letters are brought to need houses that answer: each call ends, in few rounds."""
         for who in all_of(play):
@@ -489,6 +525,7 @@ class Drawn(unittest.TestCase):
             self.finish(play)
             self.assertEqual(lied, {})
             self.check_houses_and_sheets(play)
+            self.check_stocks(play)
             self.check_lines(play, lied)
             history = play.history()
             self.assertIs(is_history(play.table, history), True)
@@ -510,6 +547,7 @@ class Drawn(unittest.TestCase):
         for seed in range(60):
             play, lied = self.drawn_play(4000 + seed, lambda draw, store: draw.randint(store[2] + 1, store[1]), 500)
             self.check_houses_and_sheets(play)
+            self.check_stocks(play)
             self.check_lines(play, lied)
             lies += len(lied)
         self.assertGreater(lies, 15)
