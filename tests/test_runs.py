@@ -224,6 +224,7 @@ class Falls(unittest.TestCase):
             self.assertEqual(falls, int(writes < 5))
             self.assertEqual((play.answer(0), play.row_of_house(0)), (("done", 0), (1, 0)))
             # What it says goes on from there.
+            play.fall(("house", 0), 100)
             play.call(1, 2)
             brought(play, number)
             self.assertEqual(play.answer(1), ("done", 1))
