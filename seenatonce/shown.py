@@ -231,8 +231,8 @@ def _borrowed(trust, stock, scene, bases, row):
     if not below(row, row_of(stock)) or last is not None and not below(last, row):
         return None
     for lender, sheets in enumerate(stock):
-        # The own look of a sheet has all sheets of its hand ahead of it. The hand of the scene lends nothing, as the last
-        # row has all its own sheets.
+        # An own look has all sheets of its hand ahead of it. The hand of the scene lends nothing: its sheets are up to
+        # the last row.
         if row[lender] < len(sheets) and own_look(trust, sheets[row[lender]])[0] == row:
             if None in rows:
                 plan = _lent_by_liars(trust, stock, scene, bases, row, lender)
