@@ -1,22 +1,11 @@
 """What may be forgotten of a lot, whatever comes, and what is left of it."""
 
-from seenatonce.checks import below, is_place, is_row_for
-from seenatonce.errors import BadHand, BadRow, StillHeld
-from seenatonce.lots import check_lot, deeds_of, item_of, rows_of_looks, up_to
+from seenatonce.checks import below, is_place
+from seenatonce.errors import BadHand, StillHeld
+from seenatonce.lots import check_lot, check_row_in, deeds_of, item_of, rows_of_looks, up_to
 from seenatonce.rows import common, joined
-from seenatonce.sheets import row_of
-from seenatonce.tables import check_state, check_table
+from seenatonce.tables import check_state
 from seenatonce.webs import check_served, state_behind
-
-
-def _check_lot(table, lot):
-    check_table(table)
-    check_lot(table, lot)
-
-
-def _check_row(lot, row):
-    if not is_row_for(row, len(lot)) or not below(row, row_of(lot)):
-        raise BadRow("no row below that of the lot")
 
 
 def _least_next(lot, hand):
@@ -29,7 +18,7 @@ def _least_next(lot, hand):
 
 def least_next(table, lot, hand):
     """The row that is below the looks of all further deeds of the hand, and that of one of them."""
-    _check_lot(table, lot)
+    check_lot(table, lot)
     if not is_place(hand, len(lot)):
         raise BadHand("no hand of the lot")
     return _least_next(lot, hand)
@@ -59,14 +48,14 @@ def _holder(lot, row):
 
 def holder_of(table, lot, row):
     """What holds the row: a deed, or a look to come, that need not see the whole row; None if it may be forgotten."""
-    _check_lot(table, lot)
-    _check_row(lot, row)
+    check_lot(table, lot)
+    check_row_in(lot, row)
     return _holder(lot, row)
 
 
 def forgettable(table, lot):
     """The greatest row that may be forgotten."""
-    _check_lot(table, lot)
+    check_lot(table, lot)
     row = common([_least_next(lot, hand) for hand in range(len(lot))])
     held = None
     while held != row:
@@ -92,7 +81,7 @@ def folded(table, begin, lot, row):
     check_served(table)
     check_state(table, begin)
     check_lot(table, lot)
-    _check_row(lot, row)
+    check_row_in(lot, row)
     holder = _holder(lot, row)
     if holder is not None:
         raise StillHeld(holder)

@@ -62,8 +62,8 @@ def is_lot(table, value):
 
 
 def check_lot(table, lot):
-    """BadLot for what is no lot for the table."""
-    if not _is_lot(table, lot):
+    """BadTable for what is no table, then BadLot for what is no lot for it."""
+    if not is_lot(table, lot):
         raise BadLot("no lot for the table")
 
 
@@ -75,7 +75,6 @@ def in_order_of_looks(lot):
 
 def looks_order(table, lot):
     """The list of all deeds of the lot in the order of looks: by the sums of their rows, then by their hands."""
-    check_table(table)
     check_lot(table, lot)
     return in_order_of_looks(lot)
 
@@ -89,7 +88,6 @@ def is_deed_in(lot, value):
 
 def sees(table, lot, one, other):
     """Whether the one deed of the lot sees the other one."""
-    check_table(table)
     check_lot(table, lot)
     if not is_deed_in(lot, one):
         raise BadPair("one is no deed of the lot")
@@ -103,12 +101,16 @@ def up_to(lot, row):
     return tuple([items[:many] for many, items in zip(row, lot)])
 
 
-def within(table, lot, row):
-    """The lot of the deeds up to the row, which is closed."""
-    check_table(table)
-    check_lot(table, lot)
+def check_row_in(lot, row):
+    """BadRow for what is no row below that of a lot."""
     if not is_row_for(row, len(lot)) or not below(row, row_of(lot)):
         raise BadRow("no row below that of the lot")
+
+
+def within(table, lot, row):
+    """The lot of the deeds up to the row, which is closed."""
+    check_lot(table, lot)
+    check_row_in(lot, row)
     held = up_to(lot, row)
     if not all([below(told, row) for told in rows_of_looks(held)]):
         raise BadRow("no closed row")

@@ -1,10 +1,10 @@
 """Webs of deeds: which deeds of a lot go ahead of which, and what comes of them."""
 
-from seenatonce.checks import below, is_list, is_place, is_row_for
+from seenatonce.checks import is_list, is_place
 from seenatonce.errors import BadEdge, BadHand, BadRow, BadSequence, NotServed
-from seenatonce.lots import check_lot, deeds_of, does_see, in_order_of_looks, is_deed_in, item_of, rows_of_looks
+from seenatonce.lots import (check_lot, check_row_in, deeds_of, does_see, in_order_of_looks, is_deed_in, item_of,
+                             rows_of_looks)
 from seenatonce.rows import on_one_line
-from seenatonce.sheets import row_of
 from seenatonce.tables import check_deed, check_state, check_table, does_overwrite, first_clash
 
 
@@ -216,10 +216,9 @@ def grown(table, begin, lot, hand, deed, row):
     if not is_place(hand, len(lot)):
         raise BadHand("no hand of the lot")
     check_deed(table, deed)
-    if not is_row_for(row, len(lot)) or not below(row, row_of(lot)) or row[hand] != len(lot[hand]):
+    check_row_in(lot, row)
+    if row[hand] != len(lot[hand]) or not on_one_line([row] + rows_of_looks(lot)):
         raise BadRow("no row of a look of the next deed of the hand")
-    if not on_one_line([row] + rows_of_looks(lot)):
-        raise BadRow("no row on one line with those of all looks")
     heads, _ = _web(table, lot)
     answer = _due(table, begin, lot, _sequence(lot, heads), deed, row)
     return lot[:hand] + (lot[hand] + ((deed, answer, row),),) + lot[hand + 1:]
