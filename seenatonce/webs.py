@@ -2,8 +2,8 @@
 
 from seenatonce.checks import is_list, is_place
 from seenatonce.errors import BadEdge, BadHand, BadRow, BadSequence, NotServed
-from seenatonce.lots import (check_lot, check_row_in, deeds_of, does_see, in_order_of_looks, is_deed_in, item_of,
-                             rows_of_looks)
+from seenatonce.lots import check_lot, check_row_in, deeds_of, does_see, in_order_of_looks
+from seenatonce.lots import is_deed_in, item_of, rows_of_looks
 from seenatonce.rows import on_one_line
 from seenatonce.tables import check_deed, check_state, check_table, does_overwrite, first_clash
 
